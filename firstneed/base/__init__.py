@@ -1,0 +1,1 @@
+"""Words, terms, and what is made of them."""
