@@ -78,8 +78,8 @@ class Read(unittest.TestCase):
     def test_commas_and_brackets(self):
         for text in ("", "()", "(a)", "f()", "f(, a)", "f(a, )", "f(a,, b)", "f(a, , b)", "a, b", ", ", ", a", "a, ",
                      "f(a", "f(a))", "f(a)(b)", "f((a))", "f(a) g(b)", "f(a)g(b)", "f(a)b", ")", "(", ")a(", "f)a(",
-                     "f(a, b", "f(a, g(b)", "f(a, b))", "f(a, b), c", "f[a]", "f(a; b)", "f a", "a b", "f(a b)", "f(a)b)",
-                     "f(g(a), b"):
+                     "f(a, b", "f(a, g(b)", "f(a, b))", "f(a, b), c", "f[a]", "f(a; b)", "f a", "a b", "f(a b)",
+                     "f(a)b)", "f(g(a), b"):
             self.assert_no_text(text)
 
     def test_words(self):
