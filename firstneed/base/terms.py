@@ -3,7 +3,7 @@
 from firstneed.base.matching import common_instance, common_pattern, filled_nodes, filling_parts
 from firstneed.base.trees import (arguments_at, height_of, makes_one_tree, part_at, places_above, places_of, text_of,
                                   told_nodes, with_part_at)
-from firstneed.base.words import ANY, LOST, is_integer, is_leaf, is_node, is_renaming
+from firstneed.base.words import ANY, LOST, is_index, is_leaf, is_node, is_renaming
 from firstneed.errors import InvalidOperation, InvalidTerm, ParseError, UnknownPlace
 
 MAX_NODES = 40
@@ -128,11 +128,8 @@ class Term:
         return None if parts is None else tuple([Term(part) for part in parts])
 
     def _check_place(self, place):
-        if not self._has_place(place):
+        if not is_index(place, len(self._nodes)):
             raise UnknownPlace(place)
-
-    def _has_place(self, place):
-        return is_integer(place) and 0 <= place < len(self._nodes)
 
     def _check_other(self, other):
         if not isinstance(other, Term):

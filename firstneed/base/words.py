@@ -12,6 +12,11 @@ def is_integer(value):
     return isinstance(value, int) and not isinstance(value, bool) and abs(value) < 10 ** 60
 
 
+def is_index(value, count):
+    """Whether the value is one of the indices of so many things."""
+    return is_integer(value) and 0 <= value < count
+
+
 def is_word(value):
     """Whether the value is a string of one to eight letters a to z."""
     if not isinstance(value, str) or not 1 <= len(value) <= MAX_LETTERS:

@@ -1,0 +1,1 @@
+"""What is needed, told for one term at a time."""

@@ -1,0 +1,1 @@
+"""What is told for all terms of a book at once."""
