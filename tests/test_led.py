@@ -337,6 +337,7 @@ class Worst(unittest.TestCase):
                 for entry in led.entries[:25]:
                     rows = led.rows_with(entry)
                     self.assertIs(is_rows(book, rows, is_open=is_open), True)
+                    self.assertEqual({use for _, uses in rows for use in uses}, set(range(len(rows) - 1)))
                     self.assertEqual(self.entry_of_rows(book, rows, is_open), entry)
 
     def entry_of_rows(self, book, rows, is_open):

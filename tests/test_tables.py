@@ -330,6 +330,8 @@ class Values(unittest.TestCase):
         book = Book.read("symbols a 0 b 0 g 1", "g(a) => a")
         self.assertEqual(Table(book), Table(Book.read(*book.lines)))
         self.assertNotEqual(Table(book), Table(book, {(0, 0): anything(book)}))
+        self.assertNotEqual(Table(Book({"a": 0})), Table(Book({"b": 0})))
+        self.assertNotEqual(Table(book), Table(book.with_symbol("c", 0)))
 
     def test_a_table_shares_nothing(self):
         rows = Table(SEQ).mapping

@@ -49,9 +49,8 @@ def are_rules(value, symbols):
 
 def is_put_at(nodes, place, other):
     """Whether other nodes are those of the tree with any other part at this place."""
-    if len(other) <= place or other[:place] != nodes[:place]:
-        return False
-    return other[part_end(other, place):] == nodes[part_end(nodes, place):]
+    # Nodes ahead of a place are never a whole tree: so the other tree has this place, too.
+    return other[:place] == nodes[:place] and other[part_end(other, place):] == nodes[part_end(nodes, place):]
 
 
 class Book:

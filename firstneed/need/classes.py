@@ -121,7 +121,8 @@ def results_of_size(frame, levels, size):
         for row in rows[head.arity]:
             mask = head.meeting([bits for _, _, bits in row])
             if not head.is_redex(mask):
-                found.append((*put_together(word, row), head.parts_at(mask)))
+                text, nodes = put_together(word, row)
+                found.append((text, nodes, head.parts_at(mask)))
     return found
 
 

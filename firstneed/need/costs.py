@@ -29,7 +29,8 @@ class Costs:
         while going:
             going = False
             for place, sign, below in inner:
-                for fact, offer in self.offers(self.maker.gates[sign].head, below):
+                offers = self.offers(self.maker.frame.heads[sign], below)
+                for fact, offer in offers:
                     going = self.take(place, fact, offer) or going
 
     def take(self, place, fact, offer):

@@ -155,7 +155,8 @@ def grown_results(frame):
     while going:
         going = False
         for word, head in frame.heads.items():
-            for bits, (size, classes) in results_made(head, found).items():
+            made = results_made(head, found)
+            for bits, (size, classes) in made.items():
                 if bits not in found or size < found[bits][0]:
                     found[bits] = (size, word, classes)
                     going = True

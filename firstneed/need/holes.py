@@ -21,17 +21,17 @@ class Holes:
 
     def __init__(self, maker, nodes, roots):
         self.maker = maker
-        self.nodes = nodes
+        self.tree = nodes
         self.root_states = roots
-        self.states = maker.states_of(nodes, roots)
+        self.part_states = maker.states_of(nodes, roots)
 
     def holed_at(self, place):
         """The state of the tree with `#` in the place of the part at a place."""
         state = LEAST
         changed = place
-        for at in reversed(list(places_above(self.nodes, place)[:-1])):
-            below = [state if inner == changed else self.states[inner] for inner in arguments_at(self.nodes, at)]
-            state = self.maker.made(self.nodes[at][0], below, self.root_states)
+        for at in reversed(list(places_above(self.tree, place)[:-1])):
+            below = [state if inner == changed else self.part_states[inner] for inner in arguments_at(self.tree, at)]
+            state = self.maker.made(self.tree[at][0], below, self.root_states)
             changed = at
         return state
 

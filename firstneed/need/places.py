@@ -132,7 +132,7 @@ class Need:
         self._holed = [maker.tuples_of(state) for state in found]
         self._needed = tuple([at for at, state in enumerate(found) if state[1] == 0])
         self._asks = asked_in(maker, term.nodes)
-        self._root_state = maker.tuples_of(holes.states[0])
+        self._root_state = maker.tuples_of(holes.part_states[0])
 
     @property
     def book(self):

@@ -12,13 +12,28 @@ from firstneed.need.making import LEAST, is_within
 
 def least_of(pairs):
     """Those pairs of sets that have no other ones within them, each once, ascending."""
-    found = sorted(set(pairs))
-    return tuple([pair for pair in found if not any([is_within(one, pair) and one != pair for one in found])])
+    found = []
+    for pair in sorted(set(pairs)):
+        # What is within a pair of sets stands ahead of it.
+        if not is_any_within(found, pair):
+            found.append(pair)
+    return tuple(found)
+
+
+def is_any_within(pairs, other):
+    """Whether one of these pairs of sets is within the other one."""
+    for pair in pairs:
+        if is_within(pair, other):
+            return True
+    return False
 
 
 def does_outdo(pairs, others):
     """Whether for each of these pairs of sets one of the others is within it."""
-    return all([any([is_within(other, pair) for other in others]) for pair in pairs])
+    for pair in pairs:
+        if not is_any_within(others, pair):
+            return False
+    return True
 
 
 class Worst:
@@ -30,7 +45,10 @@ class Worst:
 
     def has_cover(self, entry):
         """Whether one that is kept covers this one."""
-        return any([does_outdo(pairs, entry[3]) for pairs, _ in self.groups.get(entry[:3], [])])
+        for pairs, _ in self.groups.get(entry[:3], []):
+            if does_outdo(pairs, entry[3]):
+                return True
+        return False
 
     def take(self, entry, name):
         """Keeps this one unless one that is kept covers it, and tells whether it does."""
@@ -80,7 +98,8 @@ class Loom:
         for at in range(self.arity):
             strand = self.strand_of(at, entry)
             if self.pools[at].take(strand, name):
-                for begun, names in self.stages[at].kept():
+                beginnings = self.stages[at].kept()
+                for begun, names in beginnings:
                     found.extend(self.going_on(self.joined(begun, strand), (*names, name)))
         return found
 
@@ -92,7 +111,8 @@ class Loom:
         if stage == self.arity:
             return [(self.ended(strand), names)]
         found = []
-        for further, name in self.pools[stage].kept():
+        others = self.pools[stage].kept()
+        for further, name in others:
             found.extend(self.going_on(self.joined(strand, further), (*names, name)))
         return found
 
