@@ -103,6 +103,12 @@ class OfLines(unittest.TestCase):
         self.assertEqual(len(one), 34)
         self.assertEqual(len(walked_steps(book, one)), 3)
 
+        # First two nodes more are needed here, and then there is much room.
+        book = Book.read("symbols a 0 b 0 c 0 f 2 g 2 h 1", "a => h(b)", "c => h(h(b))", "g(h(h(_)), _) => b")
+        one = term("f(a, g(c, " + "h(" * 33 + "b" + ")" * 35)
+        self.assertEqual(len(one), 38)
+        self.assertEqual([at for at, _, _ in walked_steps(book, one)], [3, 2, 1])
+
     def test_parts_that_nothing_asks_for_stay(self):
         book = Book.read("symbols a 0 b 0 f 2", "f(b, _) => b", "a => f(a, a)")
         self.assertEqual(shown(book, term("f(b, f(a, #))"), 0, ("res", (0,))).way(),

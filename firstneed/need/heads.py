@@ -140,12 +140,9 @@ def results_made(head, found):
     The others are told by a dict from classes to tuples that begin with a size.
     """
     options = [[(head.passing(at, bits), row[0], bits) for bits, row in found.items()] for at in range(head.arity)]
-    made = {}
-    for mask, (cost, classes) in least_choices(head.whole, options, True).items():
-        bits = head.parts_at(mask)
-        if not head.is_redex(mask) and (bits not in made or cost + 1 < made[bits][0]):
-            made[bits] = (cost + 1, classes)
-    return made
+    choices = least_choices(head.whole, options, True)
+    return {head.parts_at(mask): (cost + 1, classes)
+            for mask, (cost, classes) in choices.items() if not head.is_redex(mask)}
 
 
 def grown_results(frame):

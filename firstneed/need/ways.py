@@ -46,7 +46,7 @@ def beside(node, runs):
     """The run of a node whose arguments have these runs, one after the other."""
     sizes = [len(run[0]) for run in runs]
     steps = []
-    most = 1 + sum(sizes)
+    most = 1
     for at in running_order(runs):
         steps.extend(shifted(runs[at][1], 1 + sum(sizes[:at])))
         most = max(most, 1 + sum(sizes) - sizes[at] + runs[at][3])

@@ -23,7 +23,7 @@ def is_row(value, index, symbols, is_open):
         return False
     if is_word(sign):
         return symbols.get(sign) == len(uses)
-    return isinstance(sign, str) and sign == ANY and is_open and uses == ()
+    return sign == ANY and is_open and uses == ()
 
 
 def nodes_of_rows(rows):
