@@ -383,6 +383,9 @@ class Worst(unittest.TestCase):
             self.assertEqual([search.worst.count, len(search.worst.kept())], [many, many])
             error = raised(Search(maker, roots, many - 1).run, False)
             self.assertEqual((type(error), error.limit), (TooMany, many - 1))
+        alone = Search(Maker(Book({"a": 0})), [], 1)
+        alone.run(False)
+        self.assertEqual(alone.worst.count, 1)
 
     def test_equality(self):
         led = Led(SEQ)

@@ -152,7 +152,9 @@ class FromLines(unittest.TestCase):
 
     def test_wrong_lines(self):
         for line in ["", "a", "a => ", " => a", "a=>a", "a => a => a", "_ => a", "a => _", "f(_) => a", "a => #",
-                     "X(a) => a", "XY => a", "f(X,a) => a", "f(X, f) => a", "a => f(f, a)", "f(X, a)  => a", "a => a\n",
+                     "X(a) => a", "XY => a", "f(X,a) => a", "f(X, f) => a", "a => f(f, a)", "f(X, a => a",
+                     "f(X, a)) => a", "a) => a", "(a) => a", "a => f(X, a", "a => a)", "a() => a", "f(X, a)  => a",
+                     "a => a\n",
                      chain(41) + " => a", "a => " + chain(41), "A1 => a", "abcdefghi => a", "f(a, b, a, b) => a",
                      *all_kinds()]:
             for symbols in (SYMBOLS, {}, None):

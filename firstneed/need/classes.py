@@ -77,7 +77,6 @@ def is_class(book, value):
 def is_result(book, term):
     """Whether a term is a result."""
     check_book(book)
-    check_term(term, book.symbols)
     return book.is_result(term)
 
 
