@@ -107,8 +107,9 @@ class Made(unittest.TestCase):
         for value in all_kinds():
             self.assert_invalid(SYMBOLS, value)
             self.assert_invalid(SYMBOLS, (value,))
-            self.assert_invalid(SYMBOLS, ((value, (A,)),)) if value != (("a", 0),) else None
-            self.assert_invalid(SYMBOLS, (((A,), value),)) if value != (("a", 0),) else None
+            if value != (A,):
+                self.assert_invalid(SYMBOLS, ((value, (A,)),))
+                self.assert_invalid(SYMBOLS, (((A,), value),))
         for rules in [((A,), (A,)), [((A,), (A,))], ([(A,), (A,)],), (((A,), (A,), (A,)),), (((A,),),), ()]:
             self.assert_invalid(SYMBOLS, rules)
 
