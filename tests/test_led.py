@@ -6,7 +6,7 @@ import unittest
 from firstneed.base.books import Book
 from firstneed.errors import InvalidBook, InvalidOperation, InvalidRows, InvalidTable, InvalidTerm, TooMany
 from firstneed.need.classes import result_classes
-from firstneed.need.closing import closed_from
+from firstneed.need.closing import least_roots
 from firstneed.need.making import Maker
 from firstneed.need.places import Need
 from firstneed.need.tables import Table, anything, is_below
@@ -14,6 +14,7 @@ from firstneed.whole import led as module
 from firstneed.whole.led import (Led, does_cover, entry_of, is_bad_entry, is_led_paper, is_rows, led_paper, rows_of,
                                  term_of)
 from firstneed.whole.search import Search
+from firstneed.whole.strands import entry_looms
 from tests.helper import all_kinds, chain, nodes_of, parts_of, raised, term_of as term_of_tree
 from tests.samples import (COND, GUS, LARGE, PLUS, SEQ, SPECIAL, chance_book, chance_books, chance_term, gapped_book,
                            no_books, term)
@@ -376,15 +377,15 @@ class Worst(unittest.TestCase):
     def test_more_entries_than_a_limit(self):
         for book in SMALL:
             maker = Maker(book)
-            roots = closed_from(maker, {}).roots()
-            search = Search(maker, roots, module.MAX_ENTRIES)
-            search.run(False)
+            roots = least_roots(maker)
+            search = Search(entry_looms(maker, roots, False), module.MAX_ENTRIES)
+            search.run()
             many = len(Led(book))
             self.assertEqual([search.worst.count, len(search.worst.kept())], [many, many])
-            error = raised(Search(maker, roots, many - 1).run, False)
+            error = raised(Search(entry_looms(maker, roots, False), many - 1).run)
             self.assertEqual((type(error), error.limit), (TooMany, many - 1))
-        alone = Search(Maker(Book({"a": 0})), [], 1)
-        alone.run(False)
+        alone = Search(entry_looms(Maker(Book({"a": 0})), [], False), 1)
+        alone.run()
         self.assertEqual(alone.worst.count, 1)
 
     def test_equality(self):

@@ -69,3 +69,20 @@ def common_pattern(one, other):
             at = part_end(one, at)
             beside = part_end(other, beside)
     return tuple(found)
+
+
+def leaves_beside(nodes, pattern):
+    """The places at which the tree has a leaf for anything, and the pattern, which it meets, has another node."""
+    found = []
+    at = 0
+    beside = 0
+    while at < len(nodes):
+        end, behind = at + 1, beside + 1
+        if nodes[at][0] == ANY:
+            behind = part_end(pattern, beside)
+            if pattern[beside][0] != ANY:
+                found.append(at)
+        elif pattern[beside][0] == ANY:
+            end = part_end(nodes, at)
+        at, beside = end, behind
+    return found

@@ -120,6 +120,19 @@ def do_overlap(lefts, rule, at, other):
     return common_instance(one.nodes, opened(lefts[other]).nodes) is not None
 
 
+def stepped_nodes(rule, pattern, nodes, place):
+    """The nodes of a tree behind the step by a rule with this pattern, which fits at this place."""
+    left, right = rule
+    parts = filling_parts(part_at(nodes, place), pattern)
+    return with_part_at(nodes, place, exchanged(right, dict(zip(variables_in(left), parts))))
+
+
+def check_program(program):
+    """Refuses what is no program."""
+    if not isinstance(program, Program):
+        raise InvalidProgram("this is no program")
+
+
 class Program:
     """Symbols, and rules with variables. It never changes."""
 
@@ -201,15 +214,10 @@ class Program:
             raise UnknownPlace(place)
         if not is_integer(rule) or rule not in fitting:
             raise InvalidNumber(rule)
-        nodes = with_part_at(term.nodes, place, self._put(part_at(term.nodes, place), rule))
+        nodes = stepped_nodes(self._rules[rule], self._full.patterns[rule].nodes, term.nodes, place)
         if len(nodes) > MAX_NODES:
             raise TooMany(MAX_NODES)
         return Term(nodes)
-
-    def _put(self, part, rule):
-        left, right = self._rules[rule]
-        parts = filling_parts(part, self._full.patterns[rule].nodes)
-        return exchanged(right, dict(zip(variables_in(left), parts)))
 
     def is_result(self, term):
         """Whether no rule fits anywhere in the term."""

@@ -40,3 +40,8 @@ def closed_from(maker, rows):
     closing = Closing(maker, rows)
     closing.close()
     return closing
+
+
+def least_roots(maker):
+    """The states of the sketches by the least table."""
+    return closed_from(maker, {}).roots()

@@ -1,8 +1,13 @@
-"""The states that terms have with `#` in the place of one of their parts."""
+"""Terms with leaves instead of their parts, and the states that they have with `#` in the place of one."""
 
 from firstneed.base.trees import arguments_at, places_above, with_part_at
 from firstneed.base.words import ANY, LOST
 from firstneed.need.making import LEAST
+
+
+def bare_nodes(word, arity):
+    """The nodes of a symbol with leaves for anything as its arguments."""
+    return ((word, arity), *[(ANY, 0) for _ in range(arity)])
 
 
 def holed_nodes(nodes, place):

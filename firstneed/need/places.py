@@ -2,12 +2,12 @@
 
 from firstneed.base.books import check_book
 from firstneed.base.checks import check_place, check_term, check_word
-from firstneed.base.words import ANY, is_index
+from firstneed.base.words import is_index
 from firstneed.errors import InvalidOperation, InvalidTerm
-from firstneed.need.closing import closed_from
+from firstneed.need.closing import least_roots
 from firstneed.need.costs import Costs
 from firstneed.need.facts import RES, ROOT, Spots
-from firstneed.need.holes import Holes, asked_in, holed_nodes
+from firstneed.need.holes import Holes, asked_in, bare_nodes, holed_nodes
 from firstneed.need.lines import is_lines_in, way_within
 from firstneed.need.making import Maker
 from firstneed.need.tables import Table, closing_told
@@ -29,7 +29,7 @@ def check_spot(book, term, at):
 
 def least_holes(maker, nodes):
     """What becomes of a tree with `#` somewhere, by the least table."""
-    return Holes(maker, nodes, closed_from(maker, {}).roots())
+    return Holes(maker, nodes, least_roots(maker))
 
 
 def is_needed(book, term, at):
@@ -60,9 +60,22 @@ def strict_arguments(book, word):
     """The indices of the arguments that are needed whatever they are, ascending."""
     check_book(book)
     check_word(word, book.symbols)
-    arity = book.symbols[word]
-    holes = least_holes(Maker(book), ((word, arity), *[(ANY, 0) for _ in range(arity)]))
+    maker = Maker(book)
+    return strict_in(maker, least_roots(maker), word)
+
+
+def strict_in(maker, roots, word):
+    """These indices, where the roots of the sketches have these states."""
+    arity = maker.frame.heads[word].arity
+    holes = Holes(maker, bare_nodes(word, arity), roots)
     return tuple([at for at in range(arity) if holes.has_needed(at + 1)])
+
+
+def strict_table(book):
+    """A dict from all symbols of a book, ascending, to their strict arguments."""
+    maker = Maker(book)
+    roots = least_roots(maker)
+    return {word: strict_in(maker, roots, word) for word in maker.gates}
 
 
 def needed_paper(book, term, at):

@@ -28,6 +28,12 @@ def is_bad(entry):
     return entry[1] and all([len(state[1]) > 0 for state in entry[3]])
 
 
+def has_bad_sets(entry):
+    """Whether an entry that is told by sets is bad."""
+    _, flag, _, around = entry
+    return flag and all([state[1] != 0 for state in around])
+
+
 def covers(entry, other):
     """Whether an entry covers another one."""
     if entry[:3] != other[:3]:

@@ -4,14 +4,16 @@ from firstneed.base.books import check_book
 from firstneed.base.checks import check_flag, check_term
 from firstneed.base.terms import MAX_NODES, Term
 from firstneed.errors import InvalidOperation, InvalidRows, InvalidTable, InvalidTerm, TooMany
-from firstneed.need.closing import closed_from
+from firstneed.need.closing import closed_from, least_roots
 from firstneed.need.forms import ascends
 from firstneed.need.making import Maker
 from firstneed.need.tables import Table, closing_of, closing_told, is_closed_in
-from firstneed.whole.entries import covers, entry_sets, entry_told, is_bad, is_entry_form, is_entry_in
-from firstneed.whole.looms import Looms, Worst
+from firstneed.whole.entries import (covers, entry_sets, entry_told, has_bad_sets, is_bad, is_entry_form,
+                                     is_entry_in)
+from firstneed.whole.looms import has_all_made
 from firstneed.whole.rows import are_rows, nodes_of_rows, rows_of_nodes, rows_upto
 from firstneed.whole.search import Search
+from firstneed.whole.strands import entry_looms
 
 MAX_ENTRIES = 4000
 
@@ -23,11 +25,6 @@ def check_work_term(term, symbols, is_open):
         raise InvalidTerm("a leaf stands in the term")
 
 
-def least_roots(maker):
-    """The states of the sketches by the least table."""
-    return closed_from(maker, {}).roots()
-
-
 def entry_of(book, term, table=None, *, is_open=False):
     """The entry of a term by a table, or by the least one."""
     check_book(book)
@@ -37,7 +34,7 @@ def entry_of(book, term, table=None, *, is_open=False):
     if closing is None:
         raise InvalidTable("this is no closed table of the book")
     check_flag(is_open)
-    return entry_told(maker, Looms(maker, closing.roots()).entry_of(term.nodes))
+    return entry_told(maker, entry_looms(maker, closing.roots(), True).entry_of(term.nodes))
 
 
 def check_entry(value):
@@ -93,12 +90,13 @@ class Led:
         check_book(book)
         check_flag(is_open)
         maker = Maker(book)
-        search = Search(maker, least_roots(maker), MAX_ENTRIES)
-        search.run(is_open)
+        search = Search(entry_looms(maker, least_roots(maker), is_open), MAX_ENTRIES)
+        search.run()
         self._book = book
         self._is_open = is_open
         self._rows = search.rows
-        self._bad = search.first_bad
+        # Numbers ascend with the sizes of the terms.
+        self._bad = min([number for number, entry in enumerate(search.met) if has_bad_sets(entry)], default=None)
         self._numbers = {entry_told(maker, entry): number for entry, number in search.worst.kept()}
         self._entries = tuple(sorted(self._numbers))
 
@@ -174,7 +172,7 @@ def are_bad_rows(maker, book, value, is_open):
     """Whether the value is rows of a bad term."""
     if not are_rows(value, book.symbols, is_open):
         return False
-    return is_bad(entry_told(maker, Looms(maker, least_roots(maker)).entry_of_rows(value)))
+    return has_bad_sets(entry_looms(maker, least_roots(maker), is_open).entry_of_rows(value))
 
 
 def is_closed_by(maker, table, value, is_open):
@@ -183,11 +181,5 @@ def is_closed_by(maker, table, value, is_open):
         return False
     if any([is_bad(entry) for entry in value]):
         return False
-    looms = Looms(maker, closing_of(maker, table).roots())
-    worst = Worst()
-    for entry in value:
-        worst.take(entry_sets(maker, entry), None)
-    made = [entry for entry, _, _ in looms.beginnings(is_open)]
-    for entry in value:
-        made.extend([further for further, _, _ in looms.fed(entry_sets(maker, entry), None)])
-    return all([worst.has_cover(entry) for entry in made])
+    looms = entry_looms(maker, closing_of(maker, table).roots(), is_open)
+    return has_all_made(looms, [entry_sets(maker, entry) for entry in value])

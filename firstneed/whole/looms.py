@@ -1,13 +1,11 @@
-"""What the symbols of a book make of entries.
+"""What the symbols of a book make of entries that come one after the other.
 
-An entry is told by sets here: (class, flag, state, around). What a symbol asks of it at one of its arguments is a
-*strand*, of the same form: the items that its class leaves, its flag, the view of its state, and the least views of
-the states around. Strands are joined argument by argument, and what is joined makes an entry in the end. Of entries,
-and of strands likewise, only the worst count: those that no other one covers.
+What a symbol asks of an entry at one of its arguments is a *strand*. Strands are joined argument by argument, and what
+is joined makes an entry in the end. Both are told as tuples of four: three that are compared as they are, and a tuple
+of pairs of sets, of which the least ones count. Only the worst are kept: those that no other one covers.
 """
 
-from firstneed.base.words import ANY
-from firstneed.need.making import LEAST, is_within
+from firstneed.need.making import is_within
 
 
 def least_of(pairs):
@@ -66,89 +64,66 @@ class Worst:
 
 
 class Loom:
-    """What one symbol makes of entries that come one after the other."""
+    """What one symbol makes of entries. Its strands are told by an object of their own.
 
-    def __init__(self, maker, word, roots):
-        self.maker = maker
-        self.word = word
-        self.root_states = roots
-        self.gate = maker.gates[word]
-        self.arity = maker.frame.heads[word].arity
-        self.pools = [Worst() for _ in range(self.arity)]
-        self.stages = [Worst() for _ in range(self.arity + 1)]
-        self.unit = (self.gate.head.whole, False, self.gate.unit, ())
-        self.stages[0].take(self.unit, ())
+    This has the strand of no arguments as `unit`, and the methods `strand_of`, `joined` and `ended`; what it joins can
+    be None, of which nothing is made.
+    """
 
-    def strand_of(self, at, entry):
-        """What the symbol asks of an entry at this argument."""
-        row, flag, state, around = entry
-        views = [self.gate.view(at, other) for other in around]
-        return (self.gate.head.passing(at, row), flag, self.gate.view(at, state), least_of(views))
-
-    def joined(self, one, other):
-        """The strand of the arguments of both strands."""
-        # Only one of the arguments has the hole.
-        views = [self.gate.joint_of(view, other[2]) for view in one[3]]
-        views.extend([self.gate.joint_of(one[2], view) for view in other[3]])
-        return (one[0] & other[0], one[1] or other[1], self.gate.joint_of(one[2], other[2]), least_of(views))
+    def __init__(self, strands, arity):
+        self.strands = strands
+        self.arity = arity
+        self.pools = [Worst() for _ in range(arity)]
+        self.stages = [Worst() for _ in range(arity + 1)]
+        self.stages[0].take(strands.unit, ())
 
     def fed(self, entry, name):
         """The pairs of an entry that comes of this one, and of the names of those of which it is made."""
         found = []
         for at in range(self.arity):
-            strand = self.strand_of(at, entry)
+            strand = self.strands.strand_of(at, entry)
             if self.pools[at].take(strand, name):
                 beginnings = self.stages[at].kept()
                 for begun, names in beginnings:
-                    found.extend(self.going_on(self.joined(begun, strand), (*names, name)))
+                    found.extend(self.going_on(self.strands.joined(begun, strand), (*names, name)))
         return found
 
     def going_on(self, strand, names):
         """The pairs that come of a strand of the first arguments."""
         stage = len(names)
-        if not self.stages[stage].take(strand, names):
+        if strand is None or not self.stages[stage].take(strand, names):
             return []
         if stage == self.arity:
-            return [(self.ended(strand), names)]
+            return [(self.strands.ended(strand), names)]
         found = []
         others = self.pools[stage].kept()
         for further, name in others:
-            found.extend(self.going_on(self.joined(strand, further), (*names, name)))
+            found.extend(self.going_on(self.strands.joined(strand, further), (*names, name)))
         return found
 
     def made_of(self, entries):
         """The entry that comes of entries of all arguments."""
-        strand = self.unit
+        strand = self.strands.unit
         for at, entry in enumerate(entries):
-            strand = self.joined(strand, self.strand_of(at, entry))
-        return self.ended(strand)
-
-    def ended(self, strand):
-        """The entry that comes of a strand of all arguments."""
-        mask, flag, view, views = strand
-        is_redex = self.gate.head.is_redex(mask)
-        state = self.maker.ended(self.gate, view, self.root_states)
-        around = [self.maker.ended(self.gate, one, self.root_states) for one in views]
-        # With a hole in the place of the whole term nothing is left.
-        least = (LEAST,) if is_redex else least_of(around)
-        return (self.gate.head.parts_at(mask), flag or is_redex, state, least)
+            strand = self.strands.joined(strand, self.strands.strand_of(at, entry))
+        return self.strands.ended(strand)
 
 
 class Looms:
-    """What all symbols of a book make of entries, where the roots of the sketches have these states."""
+    """What all symbols make of entries, and of leaves, which have entries of their own."""
 
-    def __init__(self, maker, roots):
-        self.maker = maker
-        self.looms = {word: Loom(maker, word, roots) for word in maker.gates}
+    def __init__(self, looms, leaves):
+        self.looms = looms
+        self.leaves = leaves
 
     def made_of(self, sign, entries):
         """The entry that a sign makes of these."""
-        return (0, True, self.maker.most, (LEAST,)) if sign == ANY else self.looms[sign].made_of(entries)
+        return self.leaves[sign] if sign in self.leaves else self.looms[sign].made_of(entries)
 
-    def beginnings(self, is_open):
+    def beginnings(self):
         """The triples of an entry that is made of nothing, of its sign and of no names."""
         signs = [word for word, loom in self.looms.items() if loom.arity == 0]
-        return [(self.made_of(sign, []), sign, ()) for sign in signs + ([ANY] if is_open else [])]
+        return [(self.made_of(sign, []), sign, ()) for sign in signs + list(self.leaves)]
 
     def fed(self, entry, name):
         """The triples of an entry that comes of this one, of the symbol and of the names of which it is made."""
@@ -167,3 +142,14 @@ class Looms:
         for sign, uses in rows:
             found.append(self.made_of(sign, [found[use] for use in uses]))
         return found[-1]
+
+
+def has_all_made(looms, entries):
+    """Whether these entries cover all that looms, which are new, make of nothing and of them."""
+    worst = Worst()
+    for entry in entries:
+        worst.take(entry, None)
+    made = [entry for entry, _, _ in looms.beginnings()]
+    for entry in entries:
+        made.extend([further for further, _, _ in looms.fed(entry, None)])
+    return all([worst.has_cover(entry) for entry in made])

@@ -2,19 +2,24 @@
 
 from firstneed.base.terms import MAX_NODES
 from firstneed.base.trees import arguments_at, part_at, part_end
-from firstneed.base.words import ANY, is_index, is_word
+from firstneed.base.words import ANY, LOST, is_index, is_word
 
 MAX_ROWS = 4000
 
 
 def are_rows(value, symbols, is_open):
     """Whether the value is rows of these symbols, and of the leaf for anything if it is let."""
+    return are_rows_with(value, symbols, (ANY,) if is_open else ())
+
+
+def are_rows_with(value, symbols, leaves):
+    """Whether the value is rows of these symbols and leaves."""
     if not isinstance(value, tuple) or not 1 <= len(value) <= MAX_ROWS:
         return False
-    return all([is_row(row, index, symbols, is_open) for index, row in enumerate(value)])
+    return all([is_row(row, index, symbols, leaves) for index, row in enumerate(value)])
 
 
-def is_row(value, index, symbols, is_open):
+def is_row(value, index, symbols, leaves):
     """Whether the value is a row that can stand at this index."""
     if not isinstance(value, tuple) or len(value) != 2:
         return False
@@ -23,7 +28,19 @@ def is_row(value, index, symbols, is_open):
         return False
     if is_word(sign):
         return symbols.get(sign) == len(uses)
-    return sign == ANY and is_open and uses == ()
+    return sign in leaves and uses == ()
+
+
+def has_one_mark(rows):
+    """Whether there is just one row of the mark `#`, and the term of the rows has it just once."""
+    if [sign for sign, _ in rows].count(LOST) != 1:
+        return False
+    counts = []
+    for sign, uses in rows:
+        below = sum([counts[use] for use in uses])
+        # More than two need not be told apart: in large terms there would be very many.
+        counts.append(1 if sign == LOST else min(2, below))
+    return counts[-1] == 1
 
 
 def nodes_of_rows(rows):

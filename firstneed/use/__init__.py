@@ -1,0 +1,1 @@
+"""What is done with books and programs: trees of looks, runs, and projects."""
