@@ -19,10 +19,9 @@ from tests.slow import States, few_trees, nested, product, told
 HOLE = ((), ())
 MORE = GUS.with_sketch(3, term("a"))
 WIDE = Book.read("symbols a 0 b 0 c 3 d 0 f 3 g 0 h 1 k 1", "h(f(a, _, _)) => b", "h(f(_, a, _)) => a",
-                 "h(f(_, _, a)) => d", "k(f(b, _, _)) => a", "k(f(_, b, _)) => a", "f(_, b, d) => a")
-# More than four thousand pairs stand between WIDE and this one.
-BESIDE = Book.read("symbols a 0 b 0 c 3 d 0 f 3 g 0 h 1 k 1", "b => b", "h(f(_, a, _)) => a", "h(f(_, _, a)) => d",
-                   "a => a", "k(f(_, b, _)) => a", "f(_, b, d) => b")
+                 "h(f(_, _, a)) => d", "k(f(b, _, _)) => a", "k(f(_, b, _)) => a", "f(_, b, d) => b")
+# More than four thousand plain pairs stand between WIDE and this one.
+BESIDE = WIDE.with_sketch(0, term("a")).with_sketch(1, term("b"))
 CALLS = (need_same, plain_pairs, marked_pairs, parting_rows, parting_term, alike_paper, needs_over)
 
 
@@ -379,8 +378,15 @@ class Errors(unittest.TestCase):
         for call in (plain_pairs, marked_pairs):
             error = raised(call, WIDE, BESIDE)
             self.assertEqual((type(error), error.limit), (TooMany, 4000))
-        # A paper is judged all the same, and what is met ahead of them all is told.
-        self.assertIs(is_alike_paper(WIDE, BESIDE, alike_paper(WIDE, BESIDE)), True)
+        # Plain pairs alone can be few enough; what is met ahead of them all is told.
+        near = WIDE.with_sketch(5, term("_"))
+        self.assertEqual([len(plain_pairs(WIDE, near)), raised(marked_pairs, WIDE, near).limit], [2125, 4000])
+        for other in (BESIDE, near):
+            self.assertIs(need_same(WIDE, other), False)
+            self.assertIs(is_alike_paper(WIDE, other, alike_paper(WIDE, other)), True)
+        book = SPECIAL[-1]
+        error = raised(needs_over, book, book.with_sketch(0, term("_")))
+        self.assertEqual((type(error), error.limit), (TooMany, 4000))
 
     def test_a_term_of_more_than_forty_nodes(self):
         rows = [("#", ()), *[("g", (at,)) for at in range(40)]]

@@ -6,12 +6,19 @@ from firstneed.base.books import Book
 from firstneed.base.programs import Program
 from firstneed.base.terms import Term
 from firstneed.base.words import is_node, is_symbols, is_word
-from firstneed.errors import InvalidTerm
+from firstneed.errors import InvalidTerm, Refused
 from firstneed.need.classes import (class_made, class_of, fires, is_redex_made, least_result, parts_of, result_classes,
                                     result_paper, results_upto)
 from firstneed.need.lines import Lines, end_of, is_lines, is_way, round_of
 from firstneed.need.places import Need, needed_places, next_place, strict_arguments
 from firstneed.need.tables import Table, anything
+from firstneed.text.shell import Shell
+from firstneed.text.texts import read_numbers, read_state, write_rows, write_state
+from firstneed.use.looks import Looks, has_looks, is_stuck_paper, looks_of, meeting
+from firstneed.use.project import Project
+from firstneed.use.runs import Run, fewest_steps
+from firstneed.whole.alike import is_alike_paper, need_same, needs_over
+from firstneed.whole.known import books_between, given_up, is_between, least_known, meet, spared, tips
 from firstneed.whole.led import Led, entry_of, is_bad_entry, is_led_paper, led_paper, rows_of, term_of
 
 GUS = Book.read("symbols a 0 b 0 f 3 g 0", "f(a, b, _) => _", "f(_, a, b) => _", "f(b, _, a) => _", "g => _")
@@ -125,6 +132,71 @@ class Examples(unittest.TestCase):
             [is_led_paper(GUS, ("bad", (("g", ()), ("f", (0, 0, 0))))), is_led_paper(SEQ, led_paper(SEQ)),
              term_of(GUS, (("g", ()), ("f", (0, 0, 0)))).text],
             [True, True, 'f(g, g, g)'])
+
+    def test_alike(self):
+        more = GUS.with_sketch(3, Term.read("a"))
+        self.assertEqual(
+            [need_same(GUS, more), needs_over(more, GUS), needs_over(GUS, more), need_same(GUS, GUS),
+             is_alike_paper(GUS, more, ("parts", (("#", ()), ("g", ()), ("f", (0, 1, 1)))))],
+            [False, True, False, True, True])
+
+    def test_known(self):
+        shut = Program.from_lines({"a": 0, "b": 0, "c": 0, "f": 3, "k": 1}, "f(a, b, X) => c", "f(X, a, b) => c",
+                                  "f(b, X, a) => c", "k(X) => c")
+        book, bad = least_known(shut)
+        self.assertEqual(
+            [tips(shut.full()), given_up(shut.full(), 3, 0) == shut.known(0),
+             is_between(book, shut.strong(), shut.full()), sorted(list(bad)) == sorted(list(tips(book)))],
+            [((0, 0), (1, 0), (2, 0), (3, 0)), False, True, True])
+        self.assertEqual(
+            [len(list(books_between(shut.strong(), shut.full()))), meet(shut.full(), shut.strong()) == shut.strong(),
+             spared(shut, shut.ground("f(k(a), k(a), k(a))"))],
+            [16, True, {1: 'known', 3: 'known', 5: 'known'}])
+
+    def test_looks(self):
+        self.assertEqual(
+            [has_looks(SEQ, "f"), has_looks(GUS, "f"), looks_of(SEQ, Term.read("f(_, _)")),
+             looks_of(SEQ, Term.read("f(b, _)")), meeting(GUS, Term.read("f(a, _, _)"))],
+            [True, False, (1,), (2,), (0, 1)])
+        tree = Looks(SEQ, "f")
+        self.assertEqual(
+            [str(tree), tree.path(Term.read("f(b, g)")), tree.path(Term.read("f(a, b)")),
+             str(tree.settled_at(Term.read("f(a, b)"))), is_stuck_paper(GUS, "f", (Term.read("f(_, _, _)"), ()))],
+            ['9 nodes, 2 looks', (1, 2), (1,), 'f(a, _)', True])
+
+    def test_runs(self):
+        plus = Program.from_lines({"o": 0, "s": 1, "add": 2, "dup": 1}, "add(o, X) => X",
+                                  "add(s(X), Y) => s(add(X, Y))", "dup(X) => add(X, X)")
+        run = Run(plus, plus.ground("add(s(o), dup(o))"))
+        self.assertEqual(
+            [str(run), run.result.text, run.taken, run.rules, Run(plus, run.terms[0], "inner").taken,
+             fewest_steps(plus, run.terms[0])],
+            ['4 steps, result', 's(o)', (0, 1, 1, 1), (1, 0, 2, 0), (3, 3, 0, 1), 4])
+
+    def test_projects(self):
+        project = Project({"a": 0, "b": 0, "f": 2, "g": 0})
+        any_term = Term.read("_")
+        self.assertEqual(
+            [project.strict("f"), project.put("one", Term.read("f(a, _)"), any_term),
+             project.put("two", Term.read("f(b, a)"), any_term), project.put("z", Term.read("g"), any_term),
+             project.strict("f")],
+            [(0, 1), (('f', 'looser'),), (), (), (0,)])
+        self.assertEqual(
+            [project.pin(("led",)), project.trial(("put", "one", Term.read("f(_, a)"), any_term)),
+             project.does_hold(("needed", "f(g, g)", 1)), project.undo(many=2), str(project)],
+            [(), ((('f', 'other'),),), True, (), 'project of 2 rules, 0 sayings'])
+        self.assertEqual([project.redo(many=2), project.log], [(), ('put', 'put', 'put', 'pin')])
+        self.assertRaises(Refused, project.put, "two", Term.read("f(_, a)"), any_term)
+
+    def test_texts_of_values_and_a_shell(self):
+        self.assertEqual(
+            Shell(SEQ).run_all("needed f(g, g)", "next f(g, g)", "strict f", "looks f", "led", "class f(b, a)",
+                               "needed f(h)", "drop 7", "drop 2", "asked f(g, _)"),
+            ('0 1', '1', '0', 'yes', 'yes', '-', 'error InvalidTerm', 'error InvalidNumber', 'ok', '2'))
+        self.assertEqual(
+            [write_state(((0, 1), ((), (0, 2)))), read_state("- | none"),
+             write_rows((("a", ()), ("f", (0, 0)))).split("\n"), read_numbers("0 4")],
+            ['0 1 | -; 0 2', ((), ()), ['a', 'f 0 0'], (0, 4)])
 
 
 if __name__ == "__main__":

@@ -28,6 +28,22 @@ FUNCTIONS = {
         "is_rows(book, value, *, is_open=False)", "term_of(book, rows, *, is_open=False)",
         "rows_of(book, term, *, is_open=False)", "led_paper(book, *, is_open=False)",
         "is_led_paper(book, value, *, is_open=False)"],
+    "firstneed.whole.alike": [
+        "need_same(one, other)", "plain_pairs(one, other)", "marked_pairs(one, other)", "parting_rows(one, other)",
+        "parting_term(one, other)", "alike_paper(one, other)", "is_alike_paper(one, other, value)",
+        "needs_over(one, other)"],
+    "firstneed.whole.known": [
+        "is_between(book, low, high)", "tips(book)", "given_up(book, rule, node)", "meet(one, other)",
+        "joined(one, other)", "books_between(low, high)", "least_known(program, *, is_open=False)",
+        "is_least_known(program, value, *, is_open=False)", "spared(program, term)"],
+    "firstneed.use.looks": [
+        "is_settled(book, term)", "looks_of(book, term)", "meeting(book, term)", "has_looks(book, word)",
+        "stuck_paper(book, word)", "is_stuck_paper(book, word, value)"],
+    "firstneed.use.runs": ["next_terms(program, term)", "fewest_steps(program, term, most=6)",
+                           "is_run(program, value)"],
+    "firstneed.text.texts": [
+        "write_numbers(numbers)", "read_numbers(text)", "write_state(state)", "read_state(text)", "write_table(table)",
+        "read_table(text)", "write_rows(rows)", "read_rows(text)", "write_program(program)", "read_program(text)"],
 }
 
 CLASSES = {
@@ -51,6 +67,15 @@ CLASSES = {
     "firstneed.need.places.Need": ["__init__(self, book, term)", "holed(self, at)", "replaced(self, at, term)"],
     "firstneed.whole.led.Led": ["__init__(self, book, *, is_open=False)", "rows_with(self, entry)", "bad_rows(self)",
                                 "bad_term(self)"],
+    "firstneed.use.looks.Looks": ["__init__(self, book, word)", "path(self, term)", "settled_at(self, term)",
+                                  "rule(self, term)"],
+    "firstneed.use.runs.Run": ["__init__(self, program, term, strategy='needed', *, knowing=None, bound=50)"],
+    "firstneed.use.project.Project": [
+        "__init__(self, symbols)", "put(self, name, pattern, sketch)", "remove(self, name)",
+        "symbol(self, word, arity)", "pin(self, saying)", "unpin(self, saying)", "does_hold(self, saying)",
+        "strict(self, word)", "rule_named(self, name)", "trial(self, *changes)", "block(self)", "during(self, call)",
+        "undo(self, *, many=1)", "redo(self, *, many=1)", "twin(self)"],
+    "firstneed.text.shell.Shell": ["__init__(self, book)", "run(self, command)", "run_all(self, *commands)"],
 }
 
 

@@ -24,10 +24,10 @@ def check_books(one, other):
 class Alike:
     """The pairs of two books, by their least tables; those of smaller terms are met first."""
 
-    def __init__(self, one, other):
+    def __init__(self, one, other, has_mark):
         check_books(one, other)
         self.sides = (Side(one), Side(other))
-        self.search = Search(pair_looms(self.sides), MAX_PAIRS)
+        self.search = Search(pair_looms(self.sides, has_mark), MAX_PAIRS)
 
     def first_number(self, is_asked):
         """The number of the first pair that is as asked, or None. Further ones are not looked for then."""
@@ -49,22 +49,22 @@ class Alike:
 
 def need_same(one, other):
     """Whether just the same places of all ground terms are needed in both books."""
-    return Alike(one, other).first_number(is_parting) is None
+    return Alike(one, other, True).first_number(is_parting) is None
 
 
 def plain_pairs(one, other):
     """The pairs of the ground terms, ascending."""
-    return Alike(one, other).told(False)
+    return Alike(one, other, False).told(False)
 
 
 def marked_pairs(one, other):
     """The pairs of the terms with just one mark, ascending."""
-    return Alike(one, other).told(True)
+    return Alike(one, other, True).told(True)
 
 
 def parting_rows(one, other):
     """Rows with one mark whose term has results in one book alone, or None."""
-    return Alike(one, other).rows_parting()
+    return Alike(one, other, True).rows_parting()
 
 
 def parting_term(one, other):
@@ -80,7 +80,7 @@ def parting_term(one, other):
 
 def alike_paper(one, other):
     """A paper that shows whether the books need the same."""
-    alike = Alike(one, other)
+    alike = Alike(one, other, True)
     rows = alike.rows_parting()
     return ("same", alike.told(False), alike.told(True)) if rows is None else ("parts", rows)
 
@@ -108,9 +108,9 @@ def are_closed_pairs(one, other, plain, marked):
     if not are_pairs_in(sides, plain) or not are_pairs_in(sides, marked):
         return False
     entries = [pair_sets(sides, False, pair) for pair in plain] + [pair_sets(sides, True, pair) for pair in marked]
-    return not any([is_parting(entry) for entry in entries]) and has_all_made(pair_looms(sides), entries)
+    return not any([is_parting(entry) for entry in entries]) and has_all_made(pair_looms(sides, True), entries)
 
 
 def needs_over(one, other):
     """Whether each place of each ground term that is needed in the second book is needed in the first one."""
-    return Alike(one, other).first_number(is_sparing) is None
+    return Alike(one, other, True).first_number(is_sparing) is None

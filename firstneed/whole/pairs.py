@@ -57,11 +57,11 @@ class PairStrands:
         return (flag, self.sides[0].ended(self.sign, view), self.sides[1].ended(self.sign, beside), ())
 
 
-def pair_looms(sides):
-    """What all symbols of two books make of pairs, and of the mark."""
+def pair_looms(sides, has_mark):
+    """What all symbols of two books make of pairs, and of the mark if it is let."""
     gates = sides[0].maker.gates
     looms = {word: Loom(PairStrands(word, sides), gate.head.arity) for word, gate in gates.items()}
-    return Looms(looms, {LOST: (True, LEAST, LEAST, ())})
+    return Looms(looms, {LOST: (True, LEAST, LEAST, ())} if has_mark else {})
 
 
 def is_parting(entry):
