@@ -250,6 +250,19 @@ class Papers(unittest.TestCase):
                 self.assertEqual(paper, ("parts", parting_rows(one, other)))
             self.assertIs(is_alike_paper(one, other, paper), True)
 
+    def test_books_with_other_parts(self):
+        one = Book.read("symbols a 0 b 0 f 1 g 2", "a => b")
+        other = one.with_rule(term("f(a)"), term("_")).with_rule(term("g(b, _)"), term("f(b)")).without(2)
+        self.assertNotEqual(anything(one), anything(other))
+        for mine, beside in [(one, other), (other, one)]:
+            word, plain, marked = alike_paper(mine, beside)
+            self.assertEqual([word, is_alike_paper(mine, beside, (word, plain, marked))], ["same", True])
+            self.assertIs(is_alike_paper(beside, mine, (word, plain, marked)), False)
+            for pairs in (plain, marked):
+                for pair in pairs:
+                    less = [tuple(two for two in row if two != pair or row != pairs) for row in (plain, marked)]
+                    self.assertIs(is_alike_paper(mine, beside, (word, *less)), False)
+
     def test_greater_closed_sets(self):
         chance, some = random.Random(115), 0
         for one, other in PAIRS:
@@ -325,6 +338,9 @@ class Papers(unittest.TestCase):
                      (("#", []), ("g", ()), ("f", (0, 1, 1))), list(good), (), None, "parts",
                      (["#", ()], *good[1:]), ((), *good[1:])]:
             self.assertIs(is_alike_paper(GUS, MORE, ("parts", rows)), False, rows)
+        for value in [("same", good), ("part", good), (None, good), (("parts",), good), (good, "parts"), ["parts", good],
+                      ("parts", good, ()), ("parts",), good]:
+            self.assertIs(is_alike_paper(GUS, MORE, value), False)
 
     def test_very_large_terms_of_rows(self):
         rows = [("#", ()), ("g", ()), ("f", (0, 1, 1)), ("a", ()), ("f", (3, 3, 3))]
@@ -350,6 +366,7 @@ class Papers(unittest.TestCase):
                       (word, tuple(list(pair) for pair in plain), marked), (word, dict(plain), marked),
                       (word, tuple((*pair, HOLE) for pair in plain), marked),
                       (word, plain, (*marked, (anything(SEQ), ((0, 1, 2), ())))),
+                      (word, plain, (*marked, (((0, 1, 2), ()), HOLE))), (word, (*plain, (((9,), ()), HOLE)), marked),
                       (word, plain, (*marked, (anything(SEQ), ((0, 1), ((5,),))))),
                       ("same", (("a", ()),)), SEQ, Table(SEQ)]:
             self.assertIs(is_alike_paper(SEQ, SEQ, value), False)
@@ -363,8 +380,8 @@ class Errors(unittest.TestCase):
     def test_in_their_order(self):
         for value in no_books():
             for call in CALLS:
-                self.assertIs(type(raised(call, value, 5)), InvalidBook)
-                self.assertIs(type(raised(call, SEQ, value)), InvalidBook)
+                for given in [(value, 5), (value, SEQ), (SEQ, value)]:
+                    self.assertIs(type(raised(call, *given)), InvalidBook)
             self.assertIs(type(raised(is_alike_paper, value, 5, 5)), InvalidBook)
             self.assertIs(type(raised(is_alike_paper, SEQ, value, 5)), InvalidBook)
         for other in [GUS, COND, SEQ.with_symbol("h", 0), Book({"a": 0, "b": 0, "f": 2, "g": 1}), Book({"a": 0})]:

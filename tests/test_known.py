@@ -104,7 +104,7 @@ class Between(unittest.TestCase):
 
     def test_errors(self):
         for value in no_books():
-            for given in [(value, 5, 5), (SEQ, value, 5), (SEQ, SEQ, value)]:
+            for given in [(value, 5, 5), (SEQ, value, 5), (SEQ, SEQ, value), (value, SEQ, SEQ), (SEQ, value, SEQ)]:
                 self.assertIs(type(raised(is_between, *given)), InvalidBook)
 
 
@@ -194,8 +194,8 @@ class Lattice(unittest.TestCase):
     def test_errors(self):
         for value in no_books():
             for call in (meet, joined):
-                self.assertIs(type(raised(call, value, 5)), InvalidBook)
-                self.assertIs(type(raised(call, SEQ, value)), InvalidBook)
+                for given in [(value, 5), (value, SEQ), (SEQ, value)]:
+                    self.assertIs(type(raised(call, *given)), InvalidBook)
         for other in [GUS, SEQ.without(0), SEQ.with_symbol("h", 0), Book(SEQ.symbols, SEQ.rules[::-1]),
                       SEQ.renamed({"a": "b", "b": "a", "f": "f", "g": "g"})]:
             for call in (meet, joined):
@@ -244,7 +244,7 @@ class Books(unittest.TestCase):
     def test_a_generator(self):
         self.assertTrue(inspect.isgeneratorfunction(books_between))
         for value in no_books():
-            for given in [(value, 5), (SEQ, value)]:
+            for given in [(value, 5), (value, SEQ), (SEQ, value)]:
                 self.assertIs(type(raised(next, books_between(*given))), InvalidBook)
         for low, high in [(SHUT.full(), SHUT.strong()), (SEQ, GUS), (SEQ, SEQ.without(0)),
                           (SEQ, SEQ.with_symbol("h", 0))]:
@@ -341,7 +341,8 @@ class Least(unittest.TestCase):
         wrong = [*all_kinds(), [book, rows], (book,), (book, rows, ()), (rows, book), (book, None), (book, ()),
                  (None, rows), (book.lines, rows), (SHUT, rows), (less, rows), (less, {tip: bad for tip in tips(less)}),
                  (SHUT.strong(), {}), (book, {}), (book, {tip: rows[tip] for tip in list(rows)[1:]}),
-                 (book, {**rows, (4, 0): bad}), (book, {**rows, (0, 1): bad}), (book, {**rows, 0: bad}),
+                 (book, {**{tip: rows[tip] for tip in list(rows)[1:]}, (3, 1): bad}),
+                 (book, {**{tip: rows[tip] for tip in list(rows)[1:]}, (0,): bad}), (book, {**rows, (4, 0): bad}), (book, {**rows, (0, 1): bad}), (book, {**rows, 0: bad}),
                  (book, tuple(rows.items())), (book, list(rows.items())), (SEQ, rows), (SEQ, {}),
                  (book.with_symbol("h", 0), rows), (Book(book.symbols, book.rules[::-1]), rows)]
         wrong += [(book, {**rows, first: row}) for row in [

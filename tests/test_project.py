@@ -180,6 +180,7 @@ class Changes(unittest.TestCase):
         for wrong in ["", "A", "_", "abcdefghi", "a b", None, 0, True, (), [], {}, term("a")]:
             self.assertIs(type(raised(self.project.put, wrong, 5, 5)), InvalidWord)
         for wrong in [value for value in all_kinds() if not isinstance(value, Term)]:
+            self.assertIs(type(raised(self.project.put, "z", wrong, ANY)), InvalidTerm)
             self.assertIs(type(raised(self.project.put, "z", wrong, 5)), InvalidTerm)
             self.assertIs(type(raised(self.project.put, "z", ANY, wrong)), InvalidTerm)
         before = told_state(self.project)
@@ -266,6 +267,8 @@ class Sayings(unittest.TestCase):
             else:
                 error = raised(project.pin, saying)
                 self.assertEqual((type(error), error.cause), (Refused, saying))
+        half = project_of(Book.read("symbols a 0 b 0 c 0 f 3 g 0", "f(b, _, _) => a", "f(_, a, c) => c", "g => a"))
+        self.assertEqual([half.does_hold(("led",)), half.does_hold(("open",))], [True, False])
         gus = project_of(GUS)
         self.assertEqual([gus.does_hold(saying) for saying in [("led",), ("open",), ("looks", "f"), ("looks", "g")]],
                          [False, False, False, True])
@@ -309,6 +312,11 @@ class Sayings(unittest.TestCase):
         project.unpin(("open",))
         self.assertEqual([project.sayings, project.log[3:]], [(("led",), ("looks", "f")), ("pin", "pin", "pin", "unpin")])
         self.assertIs(type(raised(project.unpin, ("open",))), InvalidOperation)
+        project.pin(("strict", "f", 0))
+        project.pin(("needed", "f(g, g)", 1))
+        for wrong in [("strict", "f", False), ("needed", "f(g, g)", True)]:
+            for call in (project.pin, project.unpin):
+                self.assertIs(type(raised(call, wrong)), InvalidOperation)
 
     def test_ten_sayings(self):
         project = project_of(SEQ)
@@ -560,7 +568,10 @@ class Objects(unittest.TestCase):
         for saying in [("open",), ("led",)]:
             turned.pin(saying)
         self.assertNotEqual(pinned, turned)
-        for value in [*all_kinds(), SEQ, named, pinned, turned, project_of(GUS), Project(SYMBOLS)]:
+        changed, wider = project.twin(), project.twin()
+        changed.put("c", term("g"), term("a"))
+        wider.symbol("h", 0)
+        for value in [*all_kinds(), SEQ, named, pinned, turned, project_of(GUS), Project(SYMBOLS), changed, wider]:
             self.assertFalse(project == value)
             self.assertTrue(project != value)
 

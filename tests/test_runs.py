@@ -240,6 +240,10 @@ class Runs(unittest.TestCase):
                       Run(PLUS.without(2), one), Run(LAZY, LAZY.ground("o"))]:
             self.assertFalse(run == value)
             self.assertTrue(run != value)
+        # Equal books, but other programs.
+        first, last = (Program.from_lines({"a": 0, "f": 2}, f"f(X, Y) => {name}") for name in "XY")
+        self.assertEqual([first.full(), first == last, Run(first, term("a")) == Run(last, term("a"))],
+                         [last.full(), False, False])
 
     def test_errors_in_their_order(self):
         for value in no_programs():
@@ -373,6 +377,9 @@ class Fewest(unittest.TestCase):
         self.assertEqual([fewest_steps(PLUS, term("s(o)"), most) for most in (0, 6, 10)], [0, 0, 0])
         self.assertEqual([fewest_steps(LAZY, term("loop"), most) for most in (0, 10)], [None, None])
         self.assertEqual(fewest_steps(PLUS, one, most=4), 4)
+        # Without a bound it is six steps.
+        longer = [Program.ground(PLUS, "add(o, " * many + "o" + ")" * many) for many in (6, 7)]
+        self.assertEqual([fewest_steps(PLUS, longer[0]), fewest_steps(PLUS, longer[1])], [6, None])
         for wrong in [None, True, False, -1, 11, 10 ** 59, 10 ** 60, "5", (), [], {}, term("a")]:
             error = raised(fewest_steps, PLUS, one, wrong)
             self.assertEqual((type(error), error.number), (InvalidNumber, wrong))
@@ -402,6 +409,20 @@ class Fewest(unittest.TestCase):
                 # Up to fewer steps there are fewer terms: 1, 11, 55, 165, 330, 462, 462 ..
                 self.assertIs(fewest_steps(choose, one, 6), None)
                 self.assertIs(type(raised(fewest_steps, choose, one, 9)), TooMany)
+
+    def test_just_so_many_terms(self):
+        self.assertEqual(module.MOST_TERMS, 2000)
+        choose = Program.from_lines({"a": 0, "f": 2, "g": 0, "loop": 0}, "g => a", "loop => loop")
+        one = choose.ground("f(loop, f(g, f(g, g)))")
+        self.assertEqual(slow_fewest(choose, one, 10), (None, 8))
+        try:
+            module.MOST_TERMS = 8
+            self.assertIs(fewest_steps(choose, one, 10), None)
+            module.MOST_TERMS = 7
+            self.assertEqual(raised(fewest_steps, choose, one, 10).limit, 7)
+            self.assertIs(fewest_steps(choose, one, 2), None)
+        finally:
+            module.MOST_TERMS = 2000
 
     def test_a_result_ahead_of_too_many_terms(self):
         choose = Program.from_lines({"a": 0, "b": 0, "f": 2, "g": 0, "k": 1}, "g => a", "k(X) => b")

@@ -119,6 +119,9 @@ class Commands(unittest.TestCase):
                 seen[(word, answer[:3])] = True
         self.assertEqual(len(seen), 4)
         self.check(GUS, "led", "no: f(g, g, g)")
+        half = Book.read("symbols a 0 b 0 c 0 f 3 g 0", "f(b, _, _) => a", "f(_, a, c) => c", "g => a")
+        self.check(half, "led", "yes")
+        self.check(half, "open", "no: " + Led(half, is_open=True).bad_term().text)
         self.check_all(SEQ, ["led ", "led f", "open ", "open f", "LED", "opened"], PARSE)
 
     def test_large_bad_terms(self):

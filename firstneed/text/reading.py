@@ -55,7 +55,7 @@ def line_told(line):
 
 def is_row_form(value, index):
     """Whether the value has the form of a row that stands at this index, whatever the symbols are."""
-    if not isinstance(value, tuple) or len(value) != 2 or not isinstance(value[0], str):
+    if not isinstance(value, tuple) or len(value) != 2:
         return False
     sign, uses = value
     if not is_word(sign) and not is_leaf(sign):

@@ -1,9 +1,9 @@
 """Projects: books with named rules and with sayings that hold at all times."""
 
 from firstneed.base.terms import Term
-from firstneed.base.words import is_arity, is_integer, is_symbols, is_word
-from firstneed.errors import (InvalidBook, InvalidNumber, InvalidOperation, InvalidTerm, InvalidWord, NothingToUndo,
-                              TooMany, UnknownWord)
+from firstneed.base.words import is_arity, is_integer, is_word
+from firstneed.errors import (InvalidNumber, InvalidOperation, InvalidTerm, InvalidWord, NothingToUndo, TooMany,
+                              UnknownWord)
 from firstneed.use.plans import Plan, news_between
 from firstneed.use.sayings import does_hold_in, is_saying
 
@@ -62,8 +62,6 @@ class Project:
     """
 
     def __init__(self, symbols):
-        if not is_symbols(symbols):
-            raise InvalidBook("there is no book with these symbols")
         self.plan = Plan(symbols, {}, ())
         self.past = ()
         self.future = ()

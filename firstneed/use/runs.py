@@ -1,6 +1,5 @@
 """Runs of programs by strategies, and the fewest steps to a result."""
 
-from firstneed.base.books import Book
 from firstneed.base.checks import check_ground, is_ground_of
 from firstneed.base.programs import check_program
 from firstneed.base.terms import Term
@@ -85,7 +84,7 @@ class Course:
 
 def check_strategy(strategy):
     """Refuses what is no strategy."""
-    if not isinstance(strategy, str) or strategy not in STRATEGIES:
+    if strategy not in STRATEGIES:
         raise InvalidOperation("this is no strategy")
 
 
@@ -99,7 +98,7 @@ def known_book(program, knowing):
     """The book that a run goes by."""
     if knowing is None:
         return program.full()
-    if not isinstance(knowing, Book) or not program.does_fit(knowing):
+    if not program.does_fit(knowing):
         raise InvalidBook("the program does not fit this book")
     return knowing
 
@@ -198,11 +197,12 @@ def fewest_steps(program, term, most=6):
     met = {term.nodes: True}
     level = [term.nodes]
     for count in range(most + 1):
+        if count > 0:
+            level = level_behind(strides, level, met)
         if any([len(strides.redexes_of(nodes)) == 0 for nodes in level]):
             return count
         if len(met) > MOST_TERMS:
             raise TooMany(MOST_TERMS)
-        level = level_behind(strides, level, met) if count < most else []
     return None
 
 

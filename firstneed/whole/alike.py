@@ -1,13 +1,12 @@
 """Books that need the same: those in which just the same places of all ground terms are needed."""
 
 from firstneed.base.books import check_book
-from firstneed.base.terms import MAX_NODES, Term
 from firstneed.base.words import LOST
-from firstneed.errors import InvalidOperation, TooMany
+from firstneed.errors import InvalidOperation
 from firstneed.whole.looms import has_all_made
 from firstneed.whole.pairs import (Side, are_pairs_in, is_parting, is_sparing, pair_looms, pair_sets,
                                    pair_told)
-from firstneed.whole.rows import are_rows_with, has_one_mark, nodes_of_rows, rows_upto
+from firstneed.whole.rows import are_rows_with, has_one_mark, rows_upto, term_of_rows
 from firstneed.whole.search import Search
 
 MAX_PAIRS = 4000
@@ -70,12 +69,7 @@ def parting_rows(one, other):
 def parting_term(one, other):
     """A term with one mark that has results in one book alone, or None."""
     rows = parting_rows(one, other)
-    if rows is None:
-        return None
-    nodes = nodes_of_rows(rows)
-    if nodes is None:
-        raise TooMany(MAX_NODES)
-    return Term(nodes)
+    return None if rows is None else term_of_rows(rows)
 
 
 def alike_paper(one, other):
@@ -88,7 +82,7 @@ def alike_paper(one, other):
 def is_alike_paper(one, other, value):
     """Whether the value is such a paper."""
     check_books(one, other)
-    if not isinstance(value, tuple) or len(value) not in (2, 3) or not isinstance(value[0], str):
+    if not isinstance(value, tuple) or len(value) not in (2, 3):
         return False
     if len(value) == 2:
         return value[0] == "parts" and are_parting_rows(one, other, value[1])

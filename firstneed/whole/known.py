@@ -1,7 +1,7 @@
 """How much of the right sides has to be known."""
 
 from firstneed.base.books import Book, check_book
-from firstneed.base.checks import check_flag, check_ground
+from firstneed.base.checks import check_ground
 from firstneed.base.programs import check_program
 from firstneed.base.terms import Term
 from firstneed.base.words import ANY
@@ -87,9 +87,8 @@ def sketch_options(low, high):
 
 
 def check_led(program, is_open):
-    """Refuses what is no program, or one of which the full book is not led."""
+    """Refuses what is no program, what is no boolean, and a program of which the full book is not led."""
     check_program(program)
-    check_flag(is_open)
     if not Led(program.full(), is_open=is_open).is_led:
         raise InvalidOperation("the full book of the program is not led")
 
@@ -128,7 +127,7 @@ def are_tips_of(book, value):
     found = tips(book)
     if not isinstance(value, dict) or len(value) != len(found):
         return False
-    return all([isinstance(key, tuple) and are_numbers(key) and key in found for key in value])
+    return all([are_numbers(key) and key in found for key in value])
 
 
 def spared(program, term):

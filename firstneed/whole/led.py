@@ -2,8 +2,7 @@
 
 from firstneed.base.books import check_book
 from firstneed.base.checks import check_flag, check_term
-from firstneed.base.terms import MAX_NODES, Term
-from firstneed.errors import InvalidOperation, InvalidRows, InvalidTable, InvalidTerm, TooMany
+from firstneed.errors import InvalidOperation, InvalidRows, InvalidTable, InvalidTerm
 from firstneed.need.closing import closed_from, least_roots
 from firstneed.need.forms import ascends
 from firstneed.need.making import Maker
@@ -11,7 +10,7 @@ from firstneed.need.tables import Table, closing_of, closing_told, is_closed_in
 from firstneed.whole.entries import (covers, entry_sets, entry_told, has_bad_sets, is_bad, is_entry_form,
                                      is_entry_in)
 from firstneed.whole.looms import has_all_made
-from firstneed.whole.rows import are_rows, nodes_of_rows, rows_of_nodes, rows_upto
+from firstneed.whole.rows import are_rows, rows_of_nodes, rows_upto, term_of_rows
 from firstneed.whole.search import Search
 from firstneed.whole.strands import entry_looms
 
@@ -69,10 +68,7 @@ def term_of(book, rows, *, is_open=False):
     if not are_rows(rows, book.symbols, is_open is True):
         raise InvalidRows("these are no rows")
     check_flag(is_open)
-    nodes = nodes_of_rows(rows)
-    if nodes is None:
-        raise TooMany(MAX_NODES)
-    return Term(nodes)
+    return term_of_rows(rows)
 
 
 def rows_of(book, term, *, is_open=False):

@@ -1,8 +1,9 @@
 """Rows, which tell large terms shortly."""
 
-from firstneed.base.terms import MAX_NODES
+from firstneed.base.terms import MAX_NODES, Term
 from firstneed.base.trees import arguments_at, part_at, part_end
 from firstneed.base.words import ANY, LOST, is_index, is_word
+from firstneed.errors import TooMany
 
 MAX_ROWS = 4000
 
@@ -53,6 +54,14 @@ def nodes_of_rows(rows):
         else:
             found.append(((sign, len(parts)), *[node for part in parts for node in part]))
     return found[-1]
+
+
+def term_of_rows(rows):
+    """The term of rows, if it has at most forty nodes."""
+    nodes = nodes_of_rows(rows)
+    if nodes is None:
+        raise TooMany(MAX_NODES)
+    return Term(nodes)
 
 
 def rows_of_nodes(nodes):
