@@ -342,6 +342,27 @@ class Papers(unittest.TestCase):
                       ("parts", good, ()), ("parts",), good]:
             self.assertIs(is_alike_paper(GUS, MORE, value), False)
 
+    def test_terms_that_part_without_just_one_mark(self):
+        other = Book.read("symbols a 0 b 0 f 2", "b => b")
+        one = other.with_rule(term("f(_, _)"), term("a"))
+        mark, b, a = ("#", ()), ("b", ()), ("a", ())
+        for rows, good in [((mark, a, ("f", (0, 1))), True), ((mark, ("f", (0, 0))), False),
+                           ((mark, b, a, ("f", (1, 2))), False), ((mark, b, ("f", (0, 1)), ("f", (0, 2))), False),
+                           ((mark, a, ("f", (0, 1)), ("f", (2, 1))), True), ((mark, a, ("f", (0, 1)), ("f", (2, 2))), False),
+                           ((mark, mark, ("f", (0, 1))), False), ((mark, mark, a, ("f", (0, 2))), False),
+                           ((mark, ("f", (0, 0)), a, ("f", (2, 0))), True)]:
+            found = [Table(book).state(self.told(rows))[1] != () for book in (one, other)]
+            self.assertEqual(found, [True, False])
+            for given in [(one, other), (other, one)]:
+                self.assertIs(is_alike_paper(*given, ("parts", rows)), good, rows)
+
+    def told(self, rows):
+        """The term of rows, whatever stands in them."""
+        found = []
+        for sign, uses in rows:
+            found.append(Term.build(sign, *[found[use] for use in uses]))
+        return found[-1]
+
     def test_very_large_terms_of_rows(self):
         rows = [("#", ()), ("g", ()), ("f", (0, 1, 1)), ("a", ()), ("f", (3, 3, 3))]
         for at in range(4, 3000):
