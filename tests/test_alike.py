@@ -315,8 +315,10 @@ class Papers(unittest.TestCase):
         one = Book({"a": 0})
         some = ((), ((),))
         for pair, good in [((some, some), True), ((some, HOLE), False), ((HOLE, some), False)]:
-            self.assertIs(is_alike_paper(one, one, ("same", ((some, some),), tuple(sorted([(HOLE, HOLE), pair])))), good)
-            self.assertIs(is_alike_paper(one, one, ("same", tuple(sorted({(some, some), pair})), ((HOLE, HOLE),))), True)
+            self.assertIs(is_alike_paper(one, one, ("same", ((some, some),), tuple(sorted([(HOLE, HOLE), pair])))),
+                          good)
+            self.assertIs(is_alike_paper(one, one, ("same", tuple(sorted({(some, some), pair})), ((HOLE, HOLE),))),
+                          True)
 
     def test_other_rows_that_part(self):
         for rows in [(("#", ()), ("g", ()), ("f", (0, 1, 1))), (("g", ()), ("#", ()), ("f", (1, 0, 0))),
@@ -338,7 +340,8 @@ class Papers(unittest.TestCase):
                      (("#", []), ("g", ()), ("f", (0, 1, 1))), list(good), (), None, "parts",
                      (["#", ()], *good[1:]), ((), *good[1:])]:
             self.assertIs(is_alike_paper(GUS, MORE, ("parts", rows)), False, rows)
-        for value in [("same", good), ("part", good), (None, good), (("parts",), good), (good, "parts"), ["parts", good],
+        for value in [("same", good), ("part", good), (None, good), (("parts",), good), (good, "parts"),
+                      ["parts", good],
                       ("parts", good, ()), ("parts",), good]:
             self.assertIs(is_alike_paper(GUS, MORE, value), False)
 
@@ -348,7 +351,8 @@ class Papers(unittest.TestCase):
         mark, b, a = ("#", ()), ("b", ()), ("a", ())
         for rows, good in [((mark, a, ("f", (0, 1))), True), ((mark, ("f", (0, 0))), False),
                            ((mark, b, a, ("f", (1, 2))), False), ((mark, b, ("f", (0, 1)), ("f", (0, 2))), False),
-                           ((mark, a, ("f", (0, 1)), ("f", (2, 1))), True), ((mark, a, ("f", (0, 1)), ("f", (2, 2))), False),
+                           ((mark, a, ("f", (0, 1)), ("f", (2, 1))), True),
+                           ((mark, a, ("f", (0, 1)), ("f", (2, 2))), False),
                            ((mark, mark, ("f", (0, 1))), False), ((mark, mark, a, ("f", (0, 2))), False),
                            ((mark, ("f", (0, 0)), a, ("f", (2, 0))), True)]:
             found = [Table(book).state(self.told(rows))[1] != () for book in (one, other)]
@@ -379,7 +383,8 @@ class Papers(unittest.TestCase):
     def test_papers_that_are_none(self):
         word, plain, marked = alike_paper(SEQ, SEQ)
         for value in [*all_kinds(), [word, plain, marked], (word, plain), (word,), (word, plain, marked, ()),
-                      ("parts", plain, marked), ("alike", plain, marked), (None, plain, marked), ((word,), plain, marked),
+                      ("parts", plain, marked), ("alike", plain, marked), (None, plain, marked),
+                      ((word,), plain, marked),
                       (word, list(plain), marked), (word, plain, list(marked)), (word, plain[::-1], marked),
                       (word, plain, marked[::-1]), (word, (*plain, plain[-1]), marked),
                       (word, plain, (*marked, marked[-1])), (word, (), ()), (word, plain, ()), (word, (), marked),

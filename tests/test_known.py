@@ -14,7 +14,8 @@ from firstneed.whole.known import (books_between, given_up, is_between, is_least
                                    spared, tips)
 from firstneed.whole.led import Led, is_led_paper
 from tests.helper import all_kinds, fits, nodes_of, raised, text_of
-from tests.samples import (COND, GUS, LARGE, PLUS, SEQ, SPECIAL, chance_books, chance_nodes, chance_term, no_books, term,
+from tests.samples import (COND, GUS, LARGE, PLUS, SEQ, SPECIAL, chance_books, chance_nodes, chance_term, no_books,
+                           term,
                            terms)
 from tests.slow import nested
 
@@ -168,7 +169,8 @@ class Lattice(unittest.TestCase):
             every = list(books_between(full.strong(), full))
             one, other = chance.choice(every), chance.choice(every)
             below = [book for book in every if one.knows_more(book) and other.knows_more(book)]
-            self.assertEqual([book for book in below if all(book.knows_more(less) for less in below)], [meet(one, other)])
+            self.assertEqual([book for book in below if all(book.knows_more(less) for less in below)],
+                             [meet(one, other)])
             above = [book for book in every if book.knows_more(one) and book.knows_more(other)]
             self.assertEqual([book for book in above if all(more.knows_more(book) for more in above)],
                              [joined(one, other)])
@@ -342,7 +344,8 @@ class Least(unittest.TestCase):
                  (None, rows), (book.lines, rows), (SHUT, rows), (less, rows), (less, {tip: bad for tip in tips(less)}),
                  (SHUT.strong(), {}), (book, {}), (book, {tip: rows[tip] for tip in list(rows)[1:]}),
                  (book, {**{tip: rows[tip] for tip in list(rows)[1:]}, (3, 1): bad}),
-                 (book, {**{tip: rows[tip] for tip in list(rows)[1:]}, (0,): bad}), (book, {**rows, (4, 0): bad}), (book, {**rows, (0, 1): bad}), (book, {**rows, 0: bad}),
+                 (book, {**{tip: rows[tip] for tip in list(rows)[1:]}, (0,): bad}), (book, {**rows, (4, 0): bad}),
+                 (book, {**rows, (0, 1): bad}), (book, {**rows, 0: bad}),
                  (book, tuple(rows.items())), (book, list(rows.items())), (SEQ, rows), (SEQ, {}),
                  (book.with_symbol("h", 0), rows), (Book(book.symbols, book.rules[::-1]), rows)]
         wrong += [(book, {**rows, first: row}) for row in [

@@ -62,7 +62,8 @@ class Slow:
 
     def below(self, tree, look):
         """The trees with each symbol at a look, ascending."""
-        return [with_tree(tree, look, (word, *[("_",)] * self.book.symbols[word])) for word in sorted(self.book.symbols)]
+        bare = [(word, *[("_",)] * self.book.symbols[word]) for word in sorted(self.book.symbols)]
+        return [with_tree(tree, look, one) for one in bare]
 
     def branches(self, word):
         """[12.3]: the nodes of the tree of looks, depth first, up to and with the first stuck one, or the 401st."""
@@ -195,7 +196,8 @@ class Trees(unittest.TestCase):
     def test_looks_in_another_order(self):
         tree = Looks(ORDER, "f")
         self.assertEqual(tree.branches[0], (term("f(_, _, _)"), 2))
-        self.assertEqual([tree.path(term("f(b, b, g(a))")), tree.path(term("f(a, a, a)")), tree.path(term("f(a, b, a)"))],
+        self.assertEqual([tree.path(term("f(b, b, g(a))")), tree.path(term("f(a, a, a)")),
+                          tree.path(term("f(a, b, a)"))],
                          [(2, 1, 3, 4), (2,), (2, 1)])
         self.assertEqual([tree.settled_at(term(text)).text for text in ("f(b, b, g(g(a)))", "f(g(a), b, a)")],
                          ["f(b, b, g(g(_)))", "f(g(_), b, _)"])
@@ -268,7 +270,8 @@ class Trees(unittest.TestCase):
 
     def test_equality(self):
         tree = Looks(SEQ, "f")
-        for value in [*all_kinds(), SEQ, "f", tree.branches, Looks(SEQ, "g"), Looks(SEQ.with_symbol("h", 0), "f"), Led(SEQ)]:
+        for value in [*all_kinds(), SEQ, "f", tree.branches, Looks(SEQ, "g"), Looks(SEQ.with_symbol("h", 0), "f"),
+                      Led(SEQ)]:
             self.assertFalse(tree == value)
             self.assertTrue(tree != value)
         self.assertEqual(tree, Looks(Book.read(*SEQ.lines), "f"))
@@ -334,7 +337,8 @@ class Stuck(unittest.TestCase):
 
     def test_other_orders(self):
         # Two arguments are looked at in any order, then two others make it stuck.
-        book = Book.read("symbols a 0 b 0 f 3 g 2", "f(a, a, g(b, _)) => b", "f(a, a, g(_, b)) => b", "g(_, _) => g(a, a)")
+        book = Book.read("symbols a 0 b 0 f 3 g 2", "f(a, a, g(b, _)) => b", "f(a, a, g(_, b)) => b",
+                         "g(_, _) => g(a, a)")
         papers = self.all_papers(book, "f")
         self.assertTrue(len({paper[1] for paper in papers if paper[0] == papers[0][0]}) > 1)
         some = 0

@@ -259,7 +259,8 @@ class Sayings(unittest.TestCase):
         for saying, good in [(("needed", "f(g, g)", 1), True), (("needed", "f(g, g)", 2), False),
                              (("spared", "f(g, g)", 1), False), (("spared", "f(g, g)", 2), True),
                              (("needed", "f(_, _)", 0), True), (("needed", "_", 0), True), (("spared", "_", 0), False),
-                             (("led",), True), (("open",), True), (("strict", "f", 0), True), (("strict", "f", 1), False),
+                             (("led",), True), (("open",), True), (("strict", "f", 0), True),
+                             (("strict", "f", 1), False),
                              (("looks", "f"), True), (("looks", "a"), True)]:
             self.assertIs(project.does_hold(saying), good, saying)
             if good:
@@ -310,7 +311,8 @@ class Sayings(unittest.TestCase):
         project.pin(("open",))
         project.pin(("looks", "f"))
         project.unpin(("open",))
-        self.assertEqual([project.sayings, project.log[3:]], [(("led",), ("looks", "f")), ("pin", "pin", "pin", "unpin")])
+        self.assertEqual([project.sayings, project.log[3:]], [(("led",), ("looks", "f")),
+                                                              ("pin", "pin", "pin", "unpin")])
         self.assertIs(type(raised(project.unpin, ("open",))), InvalidOperation)
         project.pin(("strict", "f", 0))
         project.pin(("needed", "f(g, g)", 1))
@@ -320,7 +322,8 @@ class Sayings(unittest.TestCase):
 
     def test_ten_sayings(self):
         project = project_of(SEQ)
-        several = [("led",), ("open",), ("strict", "f", 0), ("looks", "f"), ("looks", "a"), ("looks", "b"), ("looks", "g"),
+        several = [("led",), ("open",), ("strict", "f", 0), ("looks", "f"), ("looks", "a"), ("looks", "b"),
+                   ("looks", "g"),
                    ("needed", "f(g, g)", 1), ("spared", "f(g, g)", 2), ("needed", "g", 0)]
         for saying in several:
             project.pin(saying)
@@ -448,12 +451,15 @@ class Trials(unittest.TestCase):
         project = project_of(SEQ)
         before = told_state(project)
         good = ("remove", "a")
-        for wrong in [*all_kinds(), ["remove", "a"], ("remove",), ("remove", "a", "b"), ("put", "z", ANY), ("symbol", "h"),
+        for wrong in [*all_kinds(), ["remove", "a"], ("remove",), ("remove", "a", "b"), ("put", "z", ANY),
+                      ("symbol", "h"),
                       ("put", "z", term("a"), ANY, 1), ("pin",), ("pin", "led", 1), ("undo",), ("undo", 1), ("trial",),
-                      ("block",), ("twin",), ("_changed", 1), ("Remove", "a"), (None, "a"), (["remove"], "a"), "remove"]:
+                      ("block",), ("twin",), ("_changed", 1), ("Remove", "a"), (None, "a"), (["remove"], "a"),
+                      "remove"]:
             for changes in [(wrong,), (good, wrong), (wrong, good), (("remove", "z"), wrong)]:
                 self.assertIs(type(raised(project.trial, *changes)), InvalidOperation)
-        for wrong, kind in [(("remove", "z"), UnknownWord), (("put", "A", 1, 1), InvalidWord), (("put", "z", 1, 1), InvalidTerm),
+        for wrong, kind in [(("remove", "z"), UnknownWord), (("put", "A", 1, 1), InvalidWord),
+                            (("put", "z", 1, 1), InvalidTerm),
                             (("put", "z", ANY, ANY), InvalidBook), (("symbol", "h", 9), InvalidNumber),
                             (("symbol", "f", 1), InvalidOperation), (("pin", "led"), InvalidOperation),
                             (("unpin", ("led",)), InvalidOperation), (("pin", ("spared", "f(g, g)", 1)), Refused)]:
@@ -545,7 +551,8 @@ class Trials(unittest.TestCase):
 class Objects(unittest.TestCase):
     def test_names(self):
         project = project_of(SEQ)
-        self.assertEqual([list(project), len(project), str(project)], [["a", "b", "c"], 3, "project of 3 rules, 0 sayings"])
+        self.assertEqual([list(project), len(project), str(project)], [["a", "b", "c"], 3,
+                                                                       "project of 3 rules, 0 sayings"])
         for value in [*all_kinds(), "b", "c", "d", ("a",)]:
             self.assertIs(value in project, isinstance(value, str) and value in ("a", "b", "c"))
         project.pin(("led",))

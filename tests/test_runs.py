@@ -23,7 +23,8 @@ GROW = Program.from_lines({"a": 0, "b": 0, "f": 2, "g": 1}, "g(X) => f(g(X), g(X
 # Numbers below s, with what is never asked for, and with a loop.
 LAZY = Program.from_lines({"o": 0, "s": 1, "p": 2, "loop": 0, "two": 1}, "loop => loop", "p(o, X) => X",
                           "p(s(X), Y) => p(X, s(Y))", "two(X) => p(X, o)")
-FREE = Program.from_lines({"a": 0, "b": 0, "k": 3, "l": 1, "loop": 0}, "k(X, Y, a) => Y", "k(X, Y, b) => X", "l(X) => b",
+FREE = Program.from_lines({"a": 0, "b": 0, "k": 3, "l": 1, "loop": 0}, "k(X, Y, a) => Y", "k(X, Y, b) => X",
+                          "l(X) => b",
                           "loop => loop")
 FLAT = Program.from_lines({"a": 0, "b": 0, "f": 3}, "a => b", "f(b, X, Y) => X")
 PROGRAMS = [PLUS, LAZY, FREE, FLAT, GROW, SHUT, DEEP, OPEN]
@@ -230,7 +231,8 @@ class Runs(unittest.TestCase):
     def test_equality(self):
         one = PLUS.ground("add(s(o), dup(o))")
         run = Run(PLUS, one)
-        same = [Run(Program.from_lines(PLUS.symbols, *PLUS.lines), one), Run(PLUS, one, bound=4), Run(PLUS, one, bound=200),
+        same = [Run(Program.from_lines(PLUS.symbols, *PLUS.lines), one), Run(PLUS, one, bound=4),
+                Run(PLUS, one, bound=200),
                 Run(PLUS, one, knowing=PLUS.full())]
         for other in same:
             self.assertTrue(run == other)
@@ -462,11 +464,14 @@ class Judged(unittest.TestCase):
         terms, taken = run.terms, run.taken
         self.assertIs(is_run(PLUS, (terms, taken)), True)
         for value in [(terms[::-1], taken), (terms, taken[::-1]), (terms, (0, 1, 1)), (terms[1:], taken),
-                      (terms, (0, 1, 1, 2)), (terms, (0, True, 1, 1)), (terms, (False, 1, 1, 1)), (terms, (0, 1, 1, None)),
+                      (terms, (0, 1, 1, 2)), (terms, (0, True, 1, 1)), (terms, (False, 1, 1, 1)),
+                      (terms, (0, 1, 1, None)),
                       (terms, (0, 1, 1, "1")), (terms, (0, 1, 1, (1,))), (terms, (0, 1, 1, [])), (terms, (0, -1, 1, 1)),
-                      (terms, (0, 1, 1, 10 ** 60)), (terms, (0, 1, 1, 1, 1)), (list(terms), taken), (terms, list(taken)),
+                      (terms, (0, 1, 1, 10 ** 60)), (terms, (0, 1, 1, 1, 1)), (list(terms), taken),
+                      (terms, list(taken)),
                       [terms, taken], (terms, taken, ()), (terms,), (tuple(one.text for one in terms), taken),
-                      (terms[:2] + terms[3:], taken[:3]), ((terms[0], terms[2]), (0,)), (terms, None), (None, taken), run]:
+                      (terms[:2] + terms[3:], taken[:3]), ((terms[0], terms[2]), (0,)), (terms, None), (None, taken),
+                      run]:
             self.assertIs(is_run(PLUS, value), False, value)
 
     def test_one_term_and_none(self):

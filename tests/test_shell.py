@@ -36,9 +36,11 @@ class Commands(unittest.TestCase):
     def test_rule(self):
         self.check(SEQ, "rule a => b", "ok", SEQ.with_rule(term("a"), term("b")))
         self.check(SEQ, "rule f(b, f(_, _)) => f(_, a)", "ok", SEQ.with_rule(term("f(b, f(_, _))"), term("f(_, a)")))
-        self.check_all(SEQ, ["rule f(a, _) => a", "rule h => a", "rule a => h", "rule _ => a", "rule # => a", "rule a => #",
+        self.check_all(SEQ, ["rule f(a, _) => a", "rule h => a", "rule a => h", "rule _ => a", "rule # => a",
+                             "rule a => #",
                              "rule f(a) => a", "rule a => " + chain(8)], "error InvalidBook")
-        self.check_all(SEQ, ["rule", "rule ", "rule a", "rule a =>", "rule a => ", "rule a=>b", "rule  a => b", "rule a => b ",
+        self.check_all(SEQ, ["rule", "rule ", "rule a", "rule a =>", "rule a => ", "rule a=>b", "rule  a => b",
+                             "rule a => b ",
                              "rule a => b => a", "rule a => b\n", "rule f(f) => a", "rule a => f(a", "rule A => b",
                              "rulea => b", "Rule a => b", "rule => b"], PARSE)
 
@@ -47,17 +49,21 @@ class Commands(unittest.TestCase):
         self.check(SEQ, "drop 2", "ok", SEQ.without(2))
         self.check_all(SEQ, ["drop 3", "drop -1", "drop 7", "drop -7", "drop " + "9" * 60, "drop -" + "9" * 60],
                        "error InvalidNumber")
-        self.check_all(SEQ, ["drop", "drop ", "drop  0", "drop 0 ", "drop 0 1", "drop 00", "drop 01", "drop -0", "drop +0",
-                             "drop 0.0", "drop a", "drop True", "drop 1" + "0" * 60, "drop -1" + "0" * 60, "drop --1", "drop -",
+        self.check_all(SEQ, ["drop", "drop ", "drop  0", "drop 0 ", "drop 0 1", "drop 00", "drop 01", "drop -0",
+                             "drop +0",
+                             "drop 0.0", "drop a", "drop True", "drop 1" + "0" * 60, "drop -1" + "0" * 60, "drop --1",
+                             "drop -",
                              "drop 0\n", "drop0", "drop 0x0", "drop 1_0"], PARSE)
 
     def test_symbol(self):
         self.check(SEQ, "symbol h 3", "ok", SEQ.with_symbol("h", 3))
         self.check(SEQ, "symbol f 2", "ok", SEQ)
-        self.check_all(SEQ, ["symbol f 1", "symbol h 4", "symbol h -1", "symbol A 0", "symbol _ 0", "symbol abcdefghi 0",
+        self.check_all(SEQ, ["symbol f 1", "symbol h 4", "symbol h -1", "symbol A 0", "symbol _ 0",
+                             "symbol abcdefghi 0",
                              "symbol 0 0", "symbol h " + "9" * 60], "error InvalidBook")
         self.check_all(SEQ, ["symbol", "symbol ", "symbol h", "symbol h ", "symbol  0", "symbol h  0", "symbol h 0 ",
-                             "symbol h 0 0", "symbol h 00", "symbol h +1", "symbol h x", "symbol h -0", "symbol h 1" + "0" * 60,
+                             "symbol h 0 0", "symbol h 00", "symbol h +1", "symbol h x", "symbol h -0",
+                             "symbol h 1" + "0" * 60,
                              "symbol A x", " symbol h 0", "symbol\nh 0"], PARSE)
         full = Book({letter: 0 for letter in "abcdefgh"})
         self.check(full, "symbol i 0", "error InvalidBook")
@@ -68,8 +74,10 @@ class Commands(unittest.TestCase):
         self.check_all(SEQ, ["sketch 3 a", "sketch -1 a", "sketch 9 h"], "error InvalidNumber")
         self.check_all(SEQ, ["sketch 0 h", "sketch 0 #", "sketch 0 f(a)", "sketch 0 " + chain(8)], "error InvalidBook")
         self.check_all(SEQ, ["sketch 0 f(f, a)"], "error InvalidTerm")
-        self.check_all(SEQ, ["sketch", "sketch ", "sketch 0", "sketch 0 ", "sketch a", "sketch  a", "sketch 0  a", "sketch 0 a ",
-                             "sketch 00 a", "sketch -0 a", "sketch 0 f(a", "sketch 0 f(a,b)", "sketch x a", "sketch a 0",
+        self.check_all(SEQ, ["sketch", "sketch ", "sketch 0", "sketch 0 ", "sketch a", "sketch  a", "sketch 0  a",
+                             "sketch 0 a ",
+                             "sketch 00 a", "sketch -0 a", "sketch 0 f(a", "sketch 0 f(a,b)", "sketch x a",
+                             "sketch a 0",
                              "sketch 0 a b", "sketch 1" + "0" * 60 + " a", "sketch 0 " + "f(" * 4000], PARSE)
 
     def test_book(self):
@@ -85,7 +93,8 @@ class Commands(unittest.TestCase):
                 self.check(book, f"class {one.text}", write_numbers(class_of(book, one)))
                 self.check(book, f"state {one.text}", write_state(Table(book).state(one)))
                 if one.lost:
-                    self.check_all(book, [f"{word} {one.text}" for word in ("needed", "asked", "next")], "error InvalidTerm")
+                    self.check_all(book, [f"{word} {one.text}" for word in ("needed", "asked", "next")],
+                                   "error InvalidTerm")
                     continue
                 self.check(book, f"needed {one.text}", write_numbers(needed_places(book, one)))
                 self.check(book, f"asked {one.text}", write_numbers(asked_places(book, one)))
@@ -99,14 +108,16 @@ class Commands(unittest.TestCase):
             self.check_all(SEQ, [f"{word} {text}" for text in ("h", "f(a)", "f(f, a)", "f(a, f)", "g(a)")],
                            "error InvalidTerm")
             self.check_all(SEQ, [word, f"{word} ", f"{word}  a", f"{word} a ", f"{word} a b", f"{word} f(a,b)",
-                                 f"{word} f(a, b", f"{word} A", f"{word} {chain(41)}", f"{word}\na", f"{word} a\n", f"{word}(a)",
+                                 f"{word} f(a, b", f"{word} A", f"{word} {chain(41)}", f"{word}\na", f"{word} a\n",
+                                 f"{word}(a)",
                                  f" {word} a", word.upper() + " a"], PARSE)
 
     def test_strict(self):
         for book in BOOKS:
             for word in book.symbols:
                 self.check(book, f"strict {word}", write_numbers(strict_arguments(book, word)))
-        self.check_all(SEQ, ["strict h", "strict F", "strict _", "strict f(a)", "strict 0", "strict f\n"], "error UnknownWord")
+        self.check_all(SEQ, ["strict h", "strict F", "strict _", "strict f(a)", "strict 0", "strict f\n"],
+                       "error UnknownWord")
         self.check_all(SEQ, ["strict", "strict ", "strict f g", "strict  f", "strict f ", "strict  "], PARSE)
 
     def test_led_and_open(self):
@@ -148,7 +159,8 @@ class Commands(unittest.TestCase):
         self.check_all(SEQ, ["looks", "looks ", "looks f f", "looks f ", "looks  f"], PARSE)
 
     def test_unknown_words(self):
-        self.check_all(SEQ, ["", " ", "\n", "a", "f(a, b)", "run", "rules", "word a", "none", "ok", "error", "yes", "Led", "#",
+        self.check_all(SEQ, ["", " ", "\n", "a", "f(a, b)", "run", "rules", "word a", "none", "ok", "error", "yes",
+                             "Led", "#",
                              "x" * 9000, "led\nled", "needed\tf(a, b)", "answers", "undo", "__init__", "0"], PARSE)
 
 
@@ -166,7 +178,8 @@ class Shells(unittest.TestCase):
 
     def test_refused_commands_change_nothing(self):
         shell = Shell(SEQ)
-        for command in ["rule f(a, _) => a", "rule a", "drop 3", "drop x", "symbol f 1", "symbol f", "sketch 0 h", "sketch 9 a",
+        for command in ["rule f(a, _) => a", "rule a", "drop 3", "drop x", "symbol f 1", "symbol f", "sketch 0 h",
+                        "sketch 9 a",
                         "sketch 0 f(f, f)", "needed h", "strict h", "led x"]:
             self.assertEqual([shell.run(command)[:6], shell.book], ["error ", SEQ])
         self.assertEqual(len(shell.answers), 12)
@@ -202,7 +215,8 @@ class Shells(unittest.TestCase):
 
     def test_any_string_has_an_answer(self):
         shell = Shell(LARGE)
-        words = ["rule", "drop", "symbol", "sketch", "book", "class", "state", "needed", "asked", "strict", "next", "looks"]
+        words = ["rule", "drop", "symbol", "sketch", "book", "class", "state", "needed", "asked", "strict", "next",
+                 "looks"]
         for rest in [one for one in all_kinds() if isinstance(one, str)]:
             for word in words:
                 self.assertIsInstance(shell.run(f"{word} {rest}"), str)

@@ -109,7 +109,8 @@ class Statements(unittest.TestCase):
             self.assertIs(found is None, need_same(book, book.strong()))
             if found is not None:
                 whole = found.with_part(found.lost[0], term(book.constants[0]))
-                self.assertNotEqual(is_needed(book, whole, found.lost[0]), is_needed(book.strong(), whole, found.lost[0]))
+                self.assertNotEqual(is_needed(book, whole, found.lost[0]),
+                                    is_needed(book.strong(), whole, found.lost[0]))
                 some += 1
         self.assertTrue(some > 10, some)
 
@@ -172,7 +173,8 @@ class NotTrue(unittest.TestCase):
         self.assertEqual([Led(book).is_led, Led(book.with_symbol("h", 0)).is_led], [True, False])
 
     def test_a_rule_less(self):
-        book = Book.read("symbols a 0 b 0 f 3 g 0", "f(_, _, _) => a", "f(a, b, _) => _", "f(_, a, b) => _", "f(b, _, a) => _",
+        book = Book.read("symbols a 0 b 0 f 3 g 0", "f(_, _, _) => a", "f(a, b, _) => _", "f(_, a, b) => _",
+                         "f(b, _, a) => _",
                          "g => _")
         self.assertEqual([book.without(0), Led(book).is_led, Led(book.without(0)).is_led],
                          [Book(GUS.symbols, GUS.rules), True, False])

@@ -20,15 +20,19 @@ BOOKS = chance_books(161, 40)
 NUMBERS = [((), "-"), ((0,), "0"), ((0, 2, 3), "0 2 3"), ((3, 2, 0), "3 2 0"), ((7, 7), "7 7"), ((10, 100), "10 100"),
            ((BIG, 0), "9" * 60 + " 0")]
 NO_NUMBERS = ["", " ", "-1", "+1", "01", "00", "0 ", " 0", "0  1", "0 -", "- 0", "--", "-0", "1.0", "1,2", "a", "none",
-              "0\n", "\n0", "0\n1", "0\t1", "1_0", "0x1", "1e3", "1" + "0" * 60, "1" * 9000, "0 " + "1" * 61, "0 01", "_",
+              "0\n", "\n0", "0\n1", "0\t1", "1_0", "0x1", "1e3", "1" + "0" * 60, "1" * 9000, "0 " + "1" * 61, "0 01",
+              "_",
               "0 1 ", "(0,)", "True", " -", "- "]
 STATES = [(((), ()), "- | none"), (((0, 1), ((), (0, 2))), "0 1 | -; 0 2"), (((), ((),)), "- | -"),
-          (((3,), ()), "3 | none"), (((), ((0,), (0, 1), (1,))), "- | 0; 0 1; 1"), (((BIG,), ((BIG,),)), f"{BIG} | {BIG}")]
-NO_STATES = ["", "-", "none", "0 1", "- |none", "-| none", "-|none", "- | ", " | none", "| none", "- | none ", " - | none",
+          (((3,), ()), "3 | none"), (((), ((0,), (0, 1), (1,))), "- | 0; 0 1; 1"),
+          (((BIG,), ((BIG,),)), f"{BIG} | {BIG}")]
+NO_STATES = ["", "-", "none", "0 1", "- |none", "-| none", "-|none", "- | ", " | none", "| none", "- | none ",
+             " - | none",
              "-  | none", "- |  none", "- | None", "- | none; 0", "- | 0; none", "0 0 | none", "1 0 | none", "- | 0; -",
              "- | 0; 0", "- | -; -", "- | 1; 0", "- | 1 0", "- | 0 0", "- | 0;1", "- | 0 ; 1", "- | 0;  1", "- | 0; 1;",
              "- | 0; 1; ", "- | ; 0", "- | 0 | 1", "- | 0 | none", "00 | none", "-1 | none", "+1 | none", "- | 01",
-             "- | none\n", "- \n| none", f"{HUGE} | none", f"- | {HUGE}", "a | none", "0, 1 | none", "- | - 0", "none | -",
+             "- | none\n", "- \n| none", f"{HUGE} | none", f"- | {HUGE}", "a | none", "0, 1 | none", "- | - 0",
+             "none | -",
              "none | none", "- - | none", "0 - | none", "((), ())"]
 TABLES = [({}, "none"), ({(2, 0): ((0, 1), ((),))}, "2 0: 0 1 | -"),
           ({(0, 0): ((), ()), (0, 1): ((1,), ((0,), (1,))), (10, 2): ((), ((),)), (2, BIG): ((), ())},
@@ -76,7 +80,8 @@ class Numbers(unittest.TestCase, Reads):
 
     def test_no_numbers(self):
         wrong = [value for value in all_kinds() if value != ()]
-        for value in [*wrong, [0, 1], (0, -1), (True,), (0, False), (None,), ("0",), ((0,),), (0, [1]), (HUGE,), (0, -HUGE),
+        for value in [*wrong, [0, 1], (0, -1), (True,), (0, False), (None,), ("0",), ((0,),), (0, [1]), (HUGE,),
+                      (0, -HUGE),
                       {0: 1}, "0 1", range(3), (0, term("a"))]:
             self.assertIs(type(raised(write_numbers, value)), InvalidOperation)
 
@@ -94,7 +99,8 @@ class States(unittest.TestCase, Reads):
 
     def test_no_states(self):
         for value in [*all_kinds(), ((),), ((), (), ()), [(), ()], ([], ()), ((), []), ((1, 0), ()), ((0, 0), ()),
-                      ((), ((1,), (0,))), ((), ((0,), (0,))), ((), ((1, 0),)), ((), ((0, 0),)), ((), (0,)), ((True,), ()),
+                      ((), ((1,), (0,))), ((), ((0,), (0,))), ((), ((1, 0),)), ((), ((0, 0),)), ((), (0,)),
+                      ((True,), ()),
                       ((), ((False,),)), ((-1,), ()), ((), ((-1,),)), ((HUGE,), ()), ((), ((HUGE,),)), (0, ()), ((), 0),
                       (("0",), ()), ((), ("0",)), ("", ""), ("-", "none"), ((), ([],)), ((), None), (None, ()),
                       ((), {}), ((), ((), 0))]:
@@ -106,7 +112,8 @@ class States(unittest.TestCase, Reads):
 class Tables(unittest.TestCase, Reads):
     def test_texts(self):
         for table, text in TABLES:
-            self.assertEqual([write_table(table), read_table(text), list(read_table(text))], [text, table, sorted(table)])
+            self.assertEqual([write_table(table), read_table(text), list(read_table(text))],
+                             [text, table, sorted(table)])
             backwards = {key: table[key] for key in list(table)[::-1]}
             self.assertEqual(write_table(backwards), text)
         for book in BOOKS:
@@ -130,7 +137,8 @@ class Tables(unittest.TestCase, Reads):
 
     def test_lines_out_of_order(self):
         lines = ["0 0: - | none", "0 1: - | none", "1 0: - | none"]
-        for order, wrong in [((0, 0), 1), ((1, 0), 1), ((0, 2, 1), 2), ((2, 0, 1), 1), ((0, 1, 1, 2), 2), ((0, 1, 2, 2), 3)]:
+        for order, wrong in [((0, 0), 1), ((1, 0), 1), ((0, 2, 1), 2), ((2, 0, 1), 1), ((0, 1, 1, 2), 2),
+                             ((0, 1, 2, 2), 3)]:
             self.check_texts(read_table, ["\n".join([lines[at] for at in order])], wrong)
         self.check_texts(read_table, ["\n".join([lines[1], lines[0], "none"])], 1)
         self.check_texts(read_table, ["\n".join([lines[0], "none", lines[0]])], 1)
@@ -165,8 +173,10 @@ class RowTexts(unittest.TestCase, Reads):
     def test_the_first_wrong_line(self):
         good = ["a", "f 0 0", "#"]
         self.assertEqual(len(read_rows("\n".join(good))), 3)
-        for line in ["", " ", "A", "abcdefghi", "a ", " a", "f  0", "f 00", "f 01", "f -0", "f +0", "f -1", "f 3", "f 0 0 0 0",
-                     "f 0,0", "f(a)", "0", "0 f", "f f", "f -", "__", "##", "a1", "f _", f"f {HUGE}", "f\t0", "f 0 ", "%"]:
+        for line in ["", " ", "A", "abcdefghi", "a ", " a", "f  0", "f 00", "f 01", "f -0", "f +0", "f -1", "f 3",
+                     "f 0 0 0 0",
+                     "f 0,0", "f(a)", "0", "0 f", "f f", "f -", "__", "##", "a1", "f _", f"f {HUGE}", "f\t0", "f 0 ",
+                     "%"]:
             for at in range(1, 4):
                 self.check_texts(read_rows, ["\n".join([*good[:at], line, *good[at:]])], at)
         self.check_texts(read_rows, ["", "\n", "f 0", "a 0", "-", "none "], 0)
@@ -176,8 +186,10 @@ class RowTexts(unittest.TestCase, Reads):
         self.assertEqual(read_rows("none"), (("none", ()),))
 
     def test_no_rows(self):
-        for value in [*all_kinds(), (), [("a", ())], (["a", ()],), (("a", []),), (("a",),), (("a", (), ()),), (("A", ()),),
-                      (("", ()),), (("abcdefghi", ()),), ((None, ()),), ((0, ()),), (("a", (0,)),), (("a", ()), ("f", (1,))),
+        for value in [*all_kinds(), (), [("a", ())], (["a", ()],), (("a", []),), (("a",),), (("a", (), ()),),
+                      (("A", ()),),
+                      (("", ()),), (("abcdefghi", ()),), ((None, ()),), ((0, ()),), (("a", (0,)),),
+                      (("a", ()), ("f", (1,))),
                       (("a", ()), ("f", (-1,))), (("a", ()), ("f", (False,))), (("a", ()), ("f", (0, 0, 0, 0))),
                       (("a", ()), ("f", ("0",))), (("a", ()), ("f", 0)), (("a", ()), None), (("a", ()), ("__", ())),
                       (("a", ()), ("f", (HUGE,))), (("a", None),), ((("a",), ()),), (([], ()),)]:
@@ -186,7 +198,8 @@ class RowTexts(unittest.TestCase, Reads):
 
 class Programs(unittest.TestCase, Reads):
     def test_texts(self):
-        self.assertEqual(write_program(PLUS), "symbols add 2 dup 1 o 0 s 1\nadd(o, X) => X\nadd(s(X), Y) => s(add(X, Y))\n"
+        self.assertEqual(write_program(PLUS),
+                         "symbols add 2 dup 1 o 0 s 1\nadd(o, X) => X\nadd(s(X), Y) => s(add(X, Y))\n"
                                               "dup(X) => add(X, X)")
         for program in [PLUS, SHUT, DEEP, *CHANCE]:
             text = write_program(program)
@@ -212,7 +225,8 @@ class Programs(unittest.TestCase, Reads):
 
     def test_lines_of_no_program(self):
         first = "symbols a 0 f 2 g 1"
-        for lines in [(), ("X => a",), ("f(X, X) => a",), ("f(X, Y) => Z",), ("f(X, Y) => a",) * 2, ("h => a",), ("a => f(a)",),
+        for lines in [(), ("X => a",), ("f(X, X) => a",), ("f(X, Y) => Z",), ("f(X, Y) => a",) * 2, ("h => a",),
+                      ("a => f(a)",),
                       ("f(X, Y) => a", "f(Y, X) => a"), tuple(f"f(a, {'g(' * at}X{')' * at}) => a" for at in range(7)),
                       ("f(a, f(a, f(a, f(a, a)))) => a",), ("a => f(a, f(a, f(a, f(a, a))))",)]:
             self.assertIs(type(raised(read_program, "\n".join([first, *lines]))), InvalidProgram, lines)
