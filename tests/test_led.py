@@ -379,13 +379,13 @@ class Worst(unittest.TestCase):
             maker = Maker(book)
             roots = least_roots(maker)
             search = Search(entry_looms(maker, roots, False), module.MAX_ENTRIES)
-            search.run()
+            search.run_out()
             many = len(Led(book))
             self.assertEqual([search.worst.count, len(search.worst.kept())], [many, many])
-            error = raised(Search(entry_looms(maker, roots, False), many - 1).run)
+            error = raised(Search(entry_looms(maker, roots, False), many - 1).run_out)
             self.assertEqual((type(error), error.limit), (TooMany, many - 1))
         alone = Search(entry_looms(Maker(Book({"a": 0})), [], False), 1)
-        alone.run()
+        alone.run_out()
         self.assertEqual(alone.worst.count, 1)
 
     def test_equality(self):

@@ -58,10 +58,10 @@ class Course:
         """Makes up to so many steps, and tells how the run ends."""
         word = None
         while word is None:
-            word = self.step_on(bound)
+            word = self.step_further(bound)
         return word
 
-    def step_on(self, bound):
+    def step_further(self, bound):
         """Makes a step, or tells how the run ends."""
         nodes = self.trees[-1]
         redexes = self.strides.redexes_of(nodes)

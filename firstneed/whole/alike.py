@@ -37,7 +37,7 @@ class Alike:
 
     def told(self, flag):
         """The ascending tuple of the pairs of the terms with the mark, or of those without it."""
-        self.search.run()
+        self.search.run_out()
         return tuple(sorted([pair_told(self.sides, entry) for entry in self.search.met if entry[0] == flag]))
 
     def rows_parting(self):

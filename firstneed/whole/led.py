@@ -87,7 +87,7 @@ class Led:
         check_flag(is_open)
         maker = Maker(book)
         search = Search(entry_looms(maker, least_roots(maker), is_open), MAX_ENTRIES)
-        search.run()
+        search.run_out()
         self._book = book
         self._is_open = is_open
         self._rows = search.rows

@@ -66,8 +66,8 @@ class Worst:
 class Loom:
     """What one symbol makes of entries. Its strands are told by an object of their own.
 
-    This has the strand of no arguments as `unit`, and the methods `strand_of`, `joined` and `ended`; what it joins can
-    be None, of which nothing is made.
+    This has the strand of no arguments as `unit`, and the methods `strand_of`, `both_of` and `entry_from`. What `both_of`
+    tells of two strands can be None: then nothing is made of them.
     """
 
     def __init__(self, strands, arity):
@@ -85,7 +85,7 @@ class Loom:
             if self.pools[at].take(strand, name):
                 beginnings = self.stages[at].kept()
                 for begun, names in beginnings:
-                    found.extend(self.going_on(self.strands.joined(begun, strand), (*names, name)))
+                    found.extend(self.going_on(self.strands.both_of(begun, strand), (*names, name)))
         return found
 
     def going_on(self, strand, names):
@@ -94,19 +94,19 @@ class Loom:
         if strand is None or not self.stages[stage].take(strand, names):
             return []
         if stage == self.arity:
-            return [(self.strands.ended(strand), names)]
+            return [(self.strands.entry_from(strand), names)]
         found = []
         others = self.pools[stage].kept()
         for further, name in others:
-            found.extend(self.going_on(self.strands.joined(strand, further), (*names, name)))
+            found.extend(self.going_on(self.strands.both_of(strand, further), (*names, name)))
         return found
 
     def made_of(self, entries):
         """The entry that comes of entries of all arguments."""
         strand = self.strands.unit
         for at, entry in enumerate(entries):
-            strand = self.strands.joined(strand, self.strands.strand_of(at, entry))
-        return self.strands.ended(strand)
+            strand = self.strands.both_of(strand, self.strands.strand_of(at, entry))
+        return self.strands.entry_from(strand)
 
 
 class Looms:

@@ -18,7 +18,7 @@ class Side:
         self.maker = Maker(book)
         self.root_states = least_roots(self.maker)
 
-    def ended(self, word, view):
+    def state_from(self, word, view):
         """The state that a symbol makes of what it asks of its arguments."""
         return self.maker.ended(self.maker.gates[word], view, self.root_states)
 
@@ -44,17 +44,17 @@ class PairStrands:
         flag, state, beside, _ = entry
         return (flag, self.gates[0].view(at, state), self.gates[1].view(at, beside), ())
 
-    def joined(self, one, other):
+    def both_of(self, one, other):
         """The strand of the arguments of both strands, or None if the mark stands in both."""
         if one[0] and other[0]:
             return None
         view = self.gates[0].joint_of(one[1], other[1])
         return (one[0] or other[0], view, self.gates[1].joint_of(one[2], other[2]), ())
 
-    def ended(self, strand):
+    def entry_from(self, strand):
         """The pair that comes of a strand of all arguments."""
         flag, view, beside, _ = strand
-        return (flag, self.sides[0].ended(self.sign, view), self.sides[1].ended(self.sign, beside), ())
+        return (flag, self.sides[0].state_from(self.sign, view), self.sides[1].state_from(self.sign, beside), ())
 
 
 def pair_looms(sides, has_mark):

@@ -23,7 +23,7 @@ class Search:
         self.pushed = 0
         self.push(looms.beginnings())
 
-    def run(self):
+    def run_out(self):
         """Looks for entries until no further ones come."""
         going = True
         while going:

@@ -24,14 +24,14 @@ class Strands:
         views = [self.gate.view(at, other) for other in around]
         return (self.gate.head.passing(at, row), flag, self.gate.view(at, state), least_of(views))
 
-    def joined(self, one, other):
+    def both_of(self, one, other):
         """The strand of the arguments of both strands."""
         # Only one of the arguments has the hole.
         views = [self.gate.joint_of(view, other[2]) for view in one[3]]
         views.extend([self.gate.joint_of(one[2], view) for view in other[3]])
         return (one[0] & other[0], one[1] or other[1], self.gate.joint_of(one[2], other[2]), least_of(views))
 
-    def ended(self, strand):
+    def entry_from(self, strand):
         """The entry that comes of a strand of all arguments."""
         mask, flag, view, views = strand
         is_redex = self.gate.head.is_redex(mask)
