@@ -50,9 +50,10 @@ def put_symbol(book, rest):
 
 def put_sketch(book, rest):
     """Puts another sketch in."""
-    first, _, text = ("" if rest is None else rest).partition(" ")
-    rule = number_in(first)
-    return (book.with_sketch(rule, Term.read(text)), DONE)
+    if rest is None:
+        raise ParseError(None)
+    rule, _, text = rest.partition(" ")
+    return (book.with_sketch(number_in(rule), Term.read(text)), DONE)
 
 
 def tell_book(book, rest):

@@ -66,8 +66,8 @@ class Worst:
 class Loom:
     """What one symbol makes of entries. Its strands are told by an object of their own.
 
-    This has the strand of no arguments as `unit`, and the methods `strand_of`, `both_of` and `entry_from`. What `both_of`
-    tells of two strands can be None: then nothing is made of them.
+    This has the strand of no arguments as `unit`, and the methods `strand_of`, `both_of` and `entry_from`. What
+    `both_of` tells of two strands can be None: then nothing is made of them.
     """
 
     def __init__(self, strands, arity):
